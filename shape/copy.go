@@ -4,13 +4,14 @@ import (
 	"slices"
 
 	"davit/api"
+	"davit/lists"
 )
 
 // Copy of a module.
 func Copy(m api.Module) api.Module {
-	funcs := own(m.Funcs)
+	funcs := lists.Own(m.Funcs)
 	for i := range funcs {
-		blocks := own(funcs[i].Blocks)
+		blocks := lists.Own(funcs[i].Blocks)
 		for j, b := range blocks {
 			blocks[j] = copyBlock(b)
 		}
@@ -20,23 +21,13 @@ func Copy(m api.Module) api.Module {
 }
 
 func copyBlock(b api.Block) api.Block {
-	b.Pad.Catch = own(b.Pad.Catch)
-	b.Ins = own(b.Ins)
+	b.Pad.Catch = lists.Own(b.Pad.Catch)
+	b.Ins = lists.Own(b.Ins)
 	for i := range b.Ins {
-		b.Ins[i].Args = own(b.Ins[i].Args)
+		b.Ins[i].Args = lists.Own(b.Ins[i].Args)
 	}
-	b.End.Args = own(b.End.Args)
+	b.End.Args = lists.Own(b.End.Args)
 	return b
-}
-
-// own is not slices.Clone, which answers an empty list by a piece of the one handed in.
-func own[T any](list []T) []T {
-	if list == nil {
-		return nil
-	}
-	mine := make([]T, len(list))
-	copy(mine, list)
-	return mine
 }
 
 // Same modules?
