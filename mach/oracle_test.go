@@ -1,11 +1,11 @@
 package mach
 
 import (
-	"math/rand/v2"
 	"slices"
 	"testing"
 
 	"davit/api"
+	"davit/made"
 	"davit/shape"
 )
 
@@ -183,128 +183,12 @@ func (w *world) run() {
 	}
 }
 
-// maker makes modules by a rule that is always the same, from a number.
-type maker struct {
-	r *rand.Rand
-	m api.Module
-}
-
-func (k *maker) places(count, regs int) []int {
-	list := make([]int, count)
-	for i := range list {
-		list[i] = k.r.IntN(regs)
-	}
-	return list
-}
-
-func (k *maker) word() uint16 { return []uint16{0, 0, 1, 1, 2, 3, 15, 16, 65535}[k.r.IntN(9)] }
-
-func (k *maker) ins(f api.Func) api.Ins {
-	p := k.places(3, f.Regs)
-	n := k.r.IntN(len(k.m.Funcs))
-	switch op := k.r.IntN(18); op {
-	case api.Copy:
-		return api.Ins{Op: op, Dst: p[0], A: p[1]}
-	case api.Add, api.Sub, api.Mul, api.Eq, api.Lt:
-		return api.Ins{Op: op, Dst: p[0], A: p[1], B: p[2]}
-	case api.Div:
-		if k.r.IntN(4) == 0 {
-			return api.Ins{Op: op, Dst: p[0], A: p[1], B: p[2]}
-		}
-	case api.Load, api.In:
-		if op == api.Load && k.r.IntN(3) == 0 {
-			return api.Ins{Op: op, Dst: p[0], A: p[1]}
-		}
-		return api.Ins{Op: api.In, Dst: p[0]}
-	case api.Store:
-		if k.r.IntN(3) == 0 {
-			return api.Ins{Op: op, A: p[1], B: p[2]}
-		}
-	case api.Call:
-		return api.Ins{Op: op, Dst: p[0], F: n, Args: k.places(k.m.Funcs[n].Params, f.Regs)}
-	case api.Out:
-		return api.Ins{Op: op, A: p[0]}
-	}
-	return api.Ins{Op: api.Const, Dst: p[0], K: k.word()}
-}
-
-func (k *maker) end(f api.Func, goals, pads []int) api.End {
-	a := k.r.IntN(f.Regs)
-	goal := func(of []int) int { return of[k.r.IntN(len(of))] }
-	switch k.r.IntN(10) {
-	case 0:
-		return api.End{Kind: api.Jump, To: goal(goals)}
-	case 1, 2:
-		return api.End{Kind: api.Branch, A: a, To: goal(goals), Else: goal(goals)}
-	case 3:
-		return api.End{Kind: api.Throw, A: a}
-	case 4:
-		return api.End{Kind: api.Resume}
-	case 5:
-		return api.End{Kind: api.Ret, A: a}
-	}
-	if len(pads) == 0 {
-		return api.End{Kind: api.Ret, A: a}
-	}
-	n := k.r.IntN(len(k.m.Funcs))
-	return api.End{Kind: api.Invoke, Dst: a, F: n, Args: k.places(k.m.Funcs[n].Params, f.Regs), To: goal(goals), Pad: goal(pads)}
-}
-
-func (k *maker) pad(f api.Func) api.Pad {
-	p := api.Pad{Dst: k.r.IntN(f.Regs)}
-	switch k.r.IntN(5) {
-	case 0:
-		p.All = true
-	case 1, 2:
-		p.Catch = []uint16{k.word()}
-		p.Cleanup = k.r.IntN(2) == 0
-	default:
-		p.Cleanup = true
-	}
-	return p
-}
-
-func (k *maker) blocks(f api.Func) []api.Block {
-	blocks := make([]api.Block, 1+k.r.IntN(6))
-	var goals, pads []int
-	for i := range blocks {
-		if i > 0 && k.r.IntN(5) < 2 {
-			blocks[i].Landing, blocks[i].Pad = true, k.pad(f)
-			pads = append(pads, i)
-		} else {
-			goals = append(goals, i)
-		}
-	}
-	for i := range blocks {
-		for range k.r.IntN(4) {
-			blocks[i].Ins = append(blocks[i].Ins, k.ins(f))
-		}
-		blocks[i].End = k.end(f, goals, pads)
-	}
-	return blocks
-}
-
-func made(seed uint64) api.Module {
-	k := maker{r: rand.New(rand.NewPCG(seed, 6))}
-	k.m.Funcs = make([]api.Func, 1+k.r.IntN(5))
-	for i := range k.m.Funcs {
-		if i > 0 {
-			k.m.Funcs[i].Params = k.r.IntN(3)
-		}
-		k.m.Funcs[i].Regs = k.m.Funcs[i].Params + 1 + k.r.IntN(3)
-	}
-	for i, f := range k.m.Funcs {
-		k.m.Funcs[i].Blocks = k.blocks(f)
-	}
-	return k.m
-}
-
 var madeInputs = []uint16{3, 0, 1, 65535, 2, 5, 16, 1, 0}
 
 func TestRunsAreTheOracles(t *testing.T) {
 	var ended [7]int
 	for seed := range uint64(20000) {
-		m := made(seed)
+		m := made.Module(seed)
 		if !shape.Right(m) {
 			t.Fatalf("seed %d: the module may not be", seed)
 		}
@@ -336,7 +220,7 @@ func TestRunsAreTheOracles(t *testing.T) {
 // Step by step it comes to the same as by Run; each machine on the way may be, and what happened only grows.
 func TestStepByStep(t *testing.T) {
 	for seed := range uint64(1500) {
-		m := made(seed)
+		m := made.Module(seed)
 		s, _ := New(m, madeInputs)
 		for fuel := range 60 {
 			if !Right(m, s) {

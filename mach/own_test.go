@@ -6,6 +6,7 @@ import (
 	"testing"
 
 	"davit/api"
+	"davit/made"
 	"davit/shape"
 )
 
@@ -243,7 +244,7 @@ func TestInputsAreNotKept(t *testing.T) {
 // What is put behind one list of an answer, or written to it, is seen in no other machine that a call answered.
 func TestMachinesOnTheWayShareNothing(t *testing.T) {
 	for seed := range uint64(300) {
-		m := made(seed)
+		m := made.Module(seed)
 		var kept, want []api.Mach
 		s, _ := New(m, madeInputs)
 		for range 25 {
@@ -256,7 +257,7 @@ func TestMachinesOnTheWayShareNothing(t *testing.T) {
 			}
 			scratch(kept[i])
 		}
-		if !slices.Equal(madeInputs, []uint16{3, 0, 1, 65535, 2, 5, 16, 1, 0}) || !shape.Same(m, made(seed)) {
+		if !slices.Equal(madeInputs, []uint16{3, 0, 1, 65535, 2, 5, 16, 1, 0}) || !shape.Same(m, made.Module(seed)) {
 			t.Fatalf("seed %d: what was handed in is changed", seed)
 		}
 	}

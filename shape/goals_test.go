@@ -6,6 +6,7 @@ import (
 	"testing"
 
 	"davit/api"
+	"davit/made"
 )
 
 func TestGoals(t *testing.T) {
@@ -170,19 +171,8 @@ func leads(f api.Func) []bool {
 }
 
 func TestCleansOfMixedBlocks(t *testing.T) {
-	seed := uint32(1)
-	below := func(n int) int {
-		seed = seed*1664525 + 1013904223
-		return int(seed>>8) % n
-	}
-	for range 3000 {
-		f := api.Func{Blocks: make([]api.Block, below(9))}
-		count := len(f.Blocks)
-		for n := range f.Blocks {
-			f.Blocks[n] = ends(below(8), below(count+2)-1, below(count+2)-1, below(count+2)-1)
-			f.Blocks[n].Landing = below(2) == 0
-			f.Blocks[n].Pad.Cleanup = below(3) == 0
-		}
+	for seed := range uint64(3000) {
+		f := made.Func(seed)
 		if got, want := Cleans(f), leads(f); !slices.Equal(got, want) {
 			t.Fatalf("%+v: %v, not %v", f, got, want)
 		}
