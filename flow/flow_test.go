@@ -6,13 +6,10 @@ import (
 	"testing"
 
 	"davit/api"
+	"davit/made"
 )
 
-func jump(to int) api.End { return api.End{Kind: api.Jump, To: to} }
-
-func branch(to, other int) api.End { return api.End{Kind: api.Branch, To: to, Else: other} }
-
-func invoke(to, pad int) api.End { return api.End{Kind: api.Invoke, To: to, Pad: pad} }
+var jump, branch, invoke, of, landing = made.Jump, made.Branch, made.Invoke, made.Of, made.Landing
 
 // all has a block in each goal, whether its Kind uses it or not.
 func all(kind, to, other, pad int) api.End {
@@ -20,23 +17,6 @@ func all(kind, to, other, pad int) api.End {
 }
 
 var ret = api.End{Kind: api.Ret}
-
-// of is a function of blocks that end so.
-func of(ends ...api.End) api.Func {
-	f := api.Func{Regs: 1, Blocks: make([]api.Block, len(ends))}
-	for n, end := range ends {
-		f.Blocks[n].End = end
-	}
-	return f
-}
-
-// landing is the function with these blocks Landing.
-func landing(f api.Func, pads ...int) api.Func {
-	for _, n := range pads {
-		f.Blocks[n].Landing, f.Blocks[n].Pad.All = true, true
-	}
-	return f
-}
 
 func TestNextByKind(t *testing.T) {
 	for kind := -20; kind <= 20; kind++ {

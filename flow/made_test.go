@@ -136,13 +136,7 @@ func TestFuncsOfModulesThatMayBe(t *testing.T) {
 
 // Every function of three blocks, each of which ends in every way that goes nowhere, or to blocks that are there, or not.
 func TestEveryFuncOfThreeBlocks(t *testing.T) {
-	ends := []api.End{ret, jump(3)}
-	for to := range 3 {
-		ends = append(ends, jump(to), branch(to, -1), invoke(3, to))
-		for other := range 3 {
-			ends = append(ends, branch(to, other), invoke(to, other))
-		}
-	}
+	ends := made.Ends(3)
 	for _, a := range ends {
 		for _, b := range ends {
 			for _, c := range ends {

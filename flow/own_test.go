@@ -1,36 +1,27 @@
 package flow
 
 import (
-	"reflect"
 	"slices"
 	"testing"
 
 	"davit/api"
+	"davit/kept"
 	"davit/made"
 	"davit/shape"
 )
 
-// roomy is a function whose list of blocks has spare room, with something in it.
-func roomy(f api.Func) (api.Func, []api.Block) {
-	whole := append(slices.Clone(f.Blocks), api.Block{End: jump(7)}, api.Block{Landing: true, End: ret})
-	f.Blocks = whole[:len(f.Blocks)]
-	return f, whole
-}
-
 func TestAFunctionThatIsHandedInIsNotChanged(t *testing.T) {
+	all := func(f api.Func) {
+		Reached(f)
+		Order(f)
+		for n := range f.Blocks {
+			Next(f, n)
+			Before(f, n)
+		}
+	}
 	for seed := range uint64(1000) {
-		m := made.Module(seed)
-		for _, f := range append(m.Funcs, made.Func(seed)) {
-			was := shape.Copy(api.Module{Funcs: []api.Func{f}})
-			f, whole := roomy(f)
-			room := slices.Clone(whole[len(f.Blocks):])
-			Reached(f)
-			Order(f)
-			for n := range f.Blocks {
-				Next(f, n)
-				Before(f, n)
-			}
-			if !shape.Same(was, api.Module{Funcs: []api.Func{f}}) || !reflect.DeepEqual(room, whole[len(f.Blocks):]) {
+		for _, f := range append(made.Module(seed).Funcs, made.Func(seed)) {
+			if !kept.Func(f, all) {
 				t.Fatalf("seed %d: the function is changed", seed)
 			}
 		}
@@ -52,21 +43,11 @@ func TestAnswersAreNewMemory(t *testing.T) {
 		"Order of no function": func() []int { return Order(api.Func{}) },
 	}
 	for name, call := range calls {
-		want := slices.Clone(call())
-		kept, got := call(), call()
-		got = got[:cap(got)]
-		for i := range got {
-			got[i] = -1
-		}
-		if !slices.Equal(call(), want) || !slices.Equal(kept, want) {
+		if !kept.Apart(call, -1) {
 			t.Errorf("%s: what is written to one answer stands in another one", name)
 		}
 	}
-	kept, got := Reached(f), Reached(f)
-	for i := range got {
-		got[i] = false
-	}
-	if slices.Contains(kept, false) || slices.Contains(Reached(f), false) {
+	if !kept.Apart(func() []bool { return Reached(f) }, false) {
 		t.Error("Reached: what is written to one answer stands in another one")
 	}
 	if !shape.Same(was, api.Module{Funcs: []api.Func{f}}) {

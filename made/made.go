@@ -1,4 +1,4 @@
-// Package made makes modules and functions for tests, from a number: the same ones each time.
+// Package made makes modules and functions for tests, from a number, the same ones each time, or from how their blocks end.
 package made
 
 import "davit/api"
@@ -37,6 +37,25 @@ func Func(seed uint64) api.Func {
 		b.End = api.End{Kind: r.below(8), To: goal(), Else: goal(), Pad: goal()}
 		b.Landing = r.below(2) == 0
 		b.Pad.Cleanup = r.below(3) == 0
+	}
+	return f
+}
+
+// Web is a function of so many blocks, most of which lead to two, that are there, one of them often the one behind it: to many of them lead many ways, and back.
+func Web(seed uint64, count int) api.Func {
+	r := &rule{seed}
+	f := api.Func{Regs: 1, Blocks: make([]api.Block, count)}
+	for n := range f.Blocks {
+		on, other := (n+1)%count, r.below(count)
+		f.Blocks[n].End = []api.End{
+			{Kind: api.Ret},
+			Jump(other),
+			Branch(on, other),
+			Branch(other, on),
+			Invoke(on, other),
+			Invoke(other, on),
+			Branch(other, r.below(count)),
+		}[r.below(7)]
 	}
 	return f
 }

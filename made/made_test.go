@@ -2,6 +2,7 @@ package made
 
 import (
 	"reflect"
+	"slices"
 	"testing"
 
 	"davit/api"
@@ -75,5 +76,40 @@ func TestFuncsOfWhateverBlocks(t *testing.T) {
 	}
 	if landing < 100 || below < 100 || beyond < 100 {
 		t.Errorf("%d Landing, %d goals below 0, %d pads beyond", landing, below, beyond)
+	}
+}
+
+func TestWebs(t *testing.T) {
+	var kinds [8]int
+	itself, on, back, ahead := 0, 0, 0, 0
+	for seed := range uint64(2000) {
+		count := int(seed % 20)
+		f := Web(seed, count)
+		if !reflect.DeepEqual(f, Web(seed, count)) {
+			t.Fatalf("seed %d: not the same each time", seed)
+		}
+		if len(f.Blocks) != count {
+			t.Fatalf("seed %d: %d blocks, not %d", seed, len(f.Blocks), count)
+		}
+		for n, b := range f.Blocks {
+			kinds[b.End.Kind]++
+			for _, goal := range append(shape.Goals(b), b.End.Pad) {
+				switch {
+				case goal < 0 || goal >= count:
+					t.Fatalf("seed %d: block %d leads to %d, of %d", seed, n, goal, count)
+				case goal == n:
+					itself++
+				case goal == n+1:
+					on++
+				case goal < n:
+					back++
+				default:
+					ahead++
+				}
+			}
+		}
+	}
+	if slices.Min(kinds[api.Ret:api.Invoke+1]) < 1000 || min(itself, on, back, ahead) < 1000 {
+		t.Errorf("kinds %v; goals: %d itself, %d one on, %d back, %d further ahead", kinds, itself, on, back, ahead)
 	}
 }
