@@ -9,7 +9,7 @@ import (
 	"davit/made"
 )
 
-var jump, branch, invoke, of, landing = made.Jump, made.Branch, made.Invoke, made.Of, made.Landing
+var jump, branch, invoke, of, landing, row, notThere = made.Jump, made.Branch, made.Invoke, made.Of, made.Landing, made.Row, made.NotThere
 
 var ret = api.End{Kind: api.Ret}
 
@@ -100,12 +100,6 @@ func TestIs(t *testing.T) {
 			}
 		}
 	}
-}
-
-// notThere are numbers of no block of a function.
-func notThere(f api.Func) []int {
-	count := len(f.Blocks)
-	return []int{-1, -2, -count - 1, -1 << 32, math.MinInt, math.MinInt + 1, count, count + 1, count + 1000, count + 1<<16, count + 1<<32, 1 << 32, math.MaxInt}
 }
 
 func TestEdge(t *testing.T) {

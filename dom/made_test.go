@@ -202,33 +202,15 @@ func TestWebs(t *testing.T) {
 
 // Every function of three blocks, each of which ends in every way that goes nowhere, or to blocks that are there, or not.
 func TestEveryFuncOfThreeBlocks(t *testing.T) {
-	ends := made.Ends(3)
-	for _, a := range ends {
-		for _, b := range ends {
-			for _, c := range ends {
-				f := of(a, b, c)
-				check(t, f)
-				checkWays(t, f)
-			}
-		}
+	for f := range made.Every(3, made.Ends(3)) {
+		check(t, f)
+		checkWays(t, f)
 	}
 }
 
 // Every function of four blocks, each of which leads to one or two others, or itself.
 func TestEveryFuncOfFourBlocks(t *testing.T) {
-	ends := []api.End{ret}
-	for to := range 4 {
-		for other := range to + 1 {
-			ends = append(ends, branch(to, other))
-		}
-	}
-	for _, a := range ends {
-		for _, b := range ends {
-			for _, c := range ends {
-				for _, d := range ends {
-					check(t, of(a, b, c, d))
-				}
-			}
-		}
+	for f := range made.Every(4, made.Ways(4)) {
+		check(t, f)
 	}
 }

@@ -36,16 +36,6 @@ func TestRows(t *testing.T) {
 	}
 }
 
-// row is of so many blocks, the last of which leads nowhere.
-func row(count int, end func(n int) api.End) api.Func {
-	f := of(make([]api.End, count)...)
-	for n := range f.Blocks {
-		f.Blocks[n].End = end(n)
-	}
-	f.Blocks[count-1].End = ret
-	return f
-}
-
 // numbers from -1 on.
 func numbers(count int) []int {
 	list := make([]int, count)

@@ -9,7 +9,7 @@ import (
 	"davit/made"
 )
 
-var jump, branch, invoke, of, landing = made.Jump, made.Branch, made.Invoke, made.Of, made.Landing
+var jump, branch, invoke, of, landing, notThere = made.Jump, made.Branch, made.Invoke, made.Of, made.Landing, made.NotThere
 
 // all has a block in each goal, whether its Kind uses it or not.
 func all(kind, to, other, pad int) api.End {
@@ -85,18 +85,9 @@ func TestNext(t *testing.T) {
 	}
 }
 
-// notThere are numbers of no block of a function.
-func notThere(f api.Func) []int {
-	count := len(f.Blocks)
-	return []int{-1, -2, -count, -1 << 32, math.MinInt, math.MinInt + 1, count, count + 1, 1000, 1 << 16, 1 << 32, 1<<32 + 1, math.MaxInt}
-}
-
 func TestNothingOfABlockThatIsNotThere(t *testing.T) {
-	for _, f := range []api.Func{{}, {Blocks: []api.Block{}}, of(jump(0)), of(branch(1, 0), jump(0)), of(jump(-1), branch(2, 1000))} {
+	for _, f := range []api.Func{{}, {Blocks: []api.Block{}}, of(jump(0)), of(branch(1, 0), jump(0)), of(jump(-1), branch(2, 1002))} {
 		for _, n := range notThere(f) {
-			if n >= 0 && n < len(f.Blocks) {
-				continue
-			}
 			if got := Next(f, n); len(got) != 0 {
 				t.Errorf("%+v: next to %d is %v", f, n, got)
 			}

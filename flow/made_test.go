@@ -136,13 +136,8 @@ func TestFuncsOfModulesThatMayBe(t *testing.T) {
 
 // Every function of three blocks, each of which ends in every way that goes nowhere, or to blocks that are there, or not.
 func TestEveryFuncOfThreeBlocks(t *testing.T) {
-	ends := made.Ends(3)
-	for _, a := range ends {
-		for _, b := range ends {
-			for _, c := range ends {
-				check(t, of(a, b, c))
-			}
-		}
+	for f := range made.Every(3, made.Ends(3)) {
+		check(t, f)
 	}
 }
 

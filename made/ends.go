@@ -1,6 +1,11 @@
 package made
 
-import "davit/api"
+import (
+	"iter"
+	"math"
+
+	"davit/api"
+)
 
 // Jump to a block.
 func Jump(to int) api.End { return api.End{Kind: api.Jump, To: to} }
@@ -38,4 +43,51 @@ func Ends(count int) []api.End {
 		}
 	}
 	return ends
+}
+
+// Ways are ends of a function of so many blocks: one that leads nowhere, and one for each block and each two blocks to lead to.
+func Ways(count int) []api.End {
+	ways := []api.End{{Kind: api.Ret}}
+	for to := range count {
+		for other := range to + 1 {
+			ways = append(ways, Branch(to, other))
+		}
+	}
+	return ways
+}
+
+// Every function of so many blocks, each of which ends in one of these ways.
+func Every(count int, ends []api.End) iter.Seq[api.Func] {
+	return func(yield func(api.Func) bool) {
+		total := 1
+		for range count {
+			total *= len(ends)
+		}
+		for number := range total {
+			chosen := make([]api.End, count)
+			for n := range chosen {
+				chosen[n] = ends[number%len(ends)]
+				number /= len(ends)
+			}
+			if !yield(Of(chosen...)) {
+				return
+			}
+		}
+	}
+}
+
+// Row is of so many blocks, the last of which leads nowhere.
+func Row(count int, end func(n int) api.End) api.Func {
+	f := Of(make([]api.End, count)...)
+	for n := range f.Blocks {
+		f.Blocks[n].End = end(n)
+	}
+	f.Blocks[count-1].End = api.End{Kind: api.Ret}
+	return f
+}
+
+// NotThere are numbers of no block of a function.
+func NotThere(f api.Func) []int {
+	count := len(f.Blocks)
+	return []int{-1, -2, -count, -count - 1, -1 << 32, math.MinInt, math.MinInt + 1, count, count + 1, count + 1000, count + 1<<16, count + 1<<32, 1 << 32, 1<<32 + 1, math.MaxInt}
 }
