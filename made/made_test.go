@@ -41,6 +41,27 @@ func TestModulesMayBe(t *testing.T) {
 	}
 }
 
+func TestOnes(t *testing.T) {
+	var kinds [api.Resume + 1]int
+	callees := api.Module{Funcs: []api.Func{{}, {Params: 1}, {Params: 2}}}
+	for seed := range uint64(200) {
+		blocks, regs := 1+int(seed)%api.MaxBlocks, 1+int(7*seed)%api.MaxRegs
+		f := One(seed, blocks, regs)
+		if !shape.Func(callees, f) || len(f.Blocks) != blocks || f.Regs != regs {
+			t.Fatalf("seed %d: %d blocks, %d places: %+v", seed, blocks, regs, f)
+		}
+		if !reflect.DeepEqual(f, One(seed, blocks, regs)) {
+			t.Fatalf("seed %d: not the same each time", seed)
+		}
+		for _, b := range f.Blocks {
+			kinds[b.End.Kind]++
+		}
+	}
+	if slices.Min(kinds[api.Ret:]) < 100 {
+		t.Errorf("kinds %v", kinds)
+	}
+}
+
 func TestFuncsOfWhateverBlocks(t *testing.T) {
 	var counts [9]int
 	var kinds [8]int

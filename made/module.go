@@ -19,13 +19,21 @@ func Module(seed uint64) api.Module {
 		k.funcs[i].Regs = k.funcs[i].Params + 1 + r.below(3)
 	}
 	for i, f := range k.funcs {
-		k.funcs[i].Blocks = k.blocks(f)
+		k.funcs[i].Blocks = k.blocks(f, 1+r.below(6))
 	}
 	return api.Module{Funcs: k.funcs}
 }
 
-func (k maker) blocks(f api.Func) []api.Block {
-	blocks := make([]api.Block, 1+k.below(6))
+// One function that may be, of so many blocks and places, whose calls suit functions 0 to 2 of as many Params.
+func One(seed uint64, blocks, regs int) api.Func {
+	f := api.Func{Regs: regs}
+	k := maker{&rule{seed}, []api.Func{f, {Params: 1}, {Params: 2}}}
+	f.Blocks = k.blocks(f, blocks)
+	return f
+}
+
+func (k maker) blocks(f api.Func, count int) []api.Block {
+	blocks := make([]api.Block, count)
 	var goals, pads []int
 	for i := range blocks {
 		if i > 0 && k.below(5) < 2 {
