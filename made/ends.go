@@ -87,7 +87,9 @@ func Row(count int, end func(n int) api.End) api.Func {
 }
 
 // NotThere are numbers of no block of a function.
-func NotThere(f api.Func) []int {
-	count := len(f.Blocks)
+func NotThere(f api.Func) []int { return NoneOf(len(f.Blocks)) }
+
+// NoneOf are numbers of nothing where there are so many.
+func NoneOf(count int) []int {
 	return []int{-1, -2, -count, -count - 1, -1 << 32, math.MinInt, math.MinInt + 1, count, count + 1, count + 1000, count + 1<<16, count + 1<<32, 1 << 32, 1<<32 + 1, math.MaxInt}
 }

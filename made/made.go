@@ -1,4 +1,4 @@
-// Package made makes modules and functions for tests, from a number, the same ones each time, or from how their blocks end.
+// Package made makes modules and functions for tests, from a number, the same ones each time, or from how their blocks end, or who calls whom.
 package made
 
 import "davit/api"
