@@ -1,0 +1,186 @@
+package throws
+
+import (
+	"slices"
+	"testing"
+
+	"davit/api"
+	"davit/mach"
+	"davit/made"
+)
+
+const most = 60 // steps that a machine runs on
+
+var inputs = []uint16{3, 0, 1, 65535, 2, 5, 16, 1, 0}
+
+// seen is how often something was thrown, how many frames went below those that threw it, and how often one landed; how often something was told, and written; and how many steps were done above, or by, one that doesn't.
+type seen struct{ thrown, past, landed, told, written, still, kept int }
+
+// steps on from a machine, each of which is held against what is said of the module.
+func (c *seen) steps(t *testing.T, m api.Module, s api.Mach) {
+	t.Helper()
+	out, tell, write := Out(m), Tells(m), Writes(m)
+	for step := 0; step < most && s.Done == api.Runs; step++ {
+		next, err := mach.Step(m, s)
+		if err != api.OK {
+			t.Fatalf("%+v may not be: %v", s, err)
+		}
+		for _, f := range c.left(m, s, next) {
+			if !out[f.F] {
+				t.Fatalf("%+v: something thrown leaves function %d: %+v", m, f.F, s)
+			}
+		}
+		c.outside(t, m, s, next, tell)
+		c.cells(t, m, s, next, write)
+		s = next
+	}
+}
+
+// left are the frames that what is thrown in this step leaves.
+func (c *seen) left(m api.Module, s, next api.Mach) []api.Frame {
+	top := s.Stack[len(s.Stack)-1]
+	b := m.Funcs[top.F].Blocks[top.Block]
+	if top.At < len(b.Ins) || b.End.Kind != api.Throw && b.End.Kind != api.Resume {
+		return nil
+	}
+	c.thrown++
+	c.past += len(s.Stack) - len(next.Stack) - 1
+	if next.Done == api.Runs {
+		c.landed++
+	}
+	return s.Stack[len(next.Stack):]
+}
+
+// each: is this said of each of the frames' functions?
+func each(s api.Mach, said []bool) bool {
+	return !slices.ContainsFunc(s.Stack, func(f api.Frame) bool { return !said[f.F] })
+}
+
+// outside: as long as a frame of one that doesn't tell is there, nothing happens outside.
+func (c *seen) outside(t *testing.T, m api.Module, s, next api.Mach, tell []bool) {
+	t.Helper()
+	happens := len(next.Events) != len(s.Events) || len(next.Inputs) != len(s.Inputs) || next.Done == api.NoInput
+	switch {
+	case happens && !each(s, tell):
+		t.Fatalf("%+v: one that doesn't tell tells: %+v", m, s)
+	case happens:
+		c.told++
+	case !each(s, tell):
+		c.still++
+	}
+}
+
+// cells stay as long as a frame of one that doesn't write is there.
+func (c *seen) cells(t *testing.T, m api.Module, s, next api.Mach, write []bool) {
+	t.Helper()
+	changes := next.Cells != s.Cells
+	switch {
+	case changes && !each(s, write):
+		t.Fatalf("%+v: one that doesn't write writes: %+v", m, s)
+	case changes:
+		c.written++
+	case !each(s, write):
+		c.kept++
+	}
+}
+
+// fewer is the module, changed, so that more of its functions do nothing: in these ones Copy stands for Out, In and Store, Ret for Throw and Resume.
+func fewer(m api.Module, functions ...int) api.Module {
+	for _, n := range functions {
+		if n >= len(m.Funcs) {
+			continue
+		}
+		for _, b := range m.Funcs[n].Blocks {
+			for i, x := range b.Ins {
+				if x.Op == api.Out || x.Op == api.In || x.Op == api.Store {
+					b.Ins[i] = api.Ins{Op: api.Copy, Dst: x.Dst, A: x.A}
+				}
+			}
+		}
+		for i, b := range m.Funcs[n].Blocks {
+			if b.End.Kind == api.Throw || b.End.Kind == api.Resume {
+				m.Funcs[n].Blocks[i].End = api.End{Kind: api.Ret, A: b.End.A}
+			}
+		}
+	}
+	return m
+}
+
+// modules some functions of which, or all, do much, and others little.
+func modules(seed uint64) api.Module {
+	return fewer(made.Module(seed), [][]int{nil, {1}, {0, 2}, {1, 3}, {2, 3, 4}}[seed%5]...)
+}
+
+// Machines from their beginning on, which are told more or less, and end in each way.
+func TestMachinesFromTheirBeginning(t *testing.T) {
+	var c seen
+	var ends [api.NoInput + 1]int
+	for seed := range uint64(10000) {
+		m, told := modules(seed), inputs[:seed%10]
+		s, _ := mach.New(m, told)
+		c.steps(t, m, s)
+		end, _ := mach.Run(m, told, most)
+		ends[end.Done]++
+	}
+	if min(c.thrown, c.landed, c.told, c.written, c.still, c.kept, slices.Min(ends[:])) < 30 {
+		t.Errorf("%+v; ends %v", c, ends)
+	}
+}
+
+// frameAt is a frame of function n at this place, with whatever words.
+func frameAt(m api.Module, n, block, at int) api.Frame {
+	f := api.Frame{F: n, Block: block, At: at, Fly: uint16(block)}
+	for place := range m.Funcs[n].Regs {
+		f.Regs = append(f.Regs, []uint16{0, 1, 5, 2, 65535}[(place+block+at)%5])
+	}
+	return f
+}
+
+// calling are frames, one for each Call and Invoke of function n that there is.
+func calling(m api.Module, n int) []api.Frame {
+	var list []api.Frame
+	for k, f := range m.Funcs {
+		for i, b := range f.Blocks {
+			for at, x := range b.Ins {
+				if x.Op == api.Call && x.F == n {
+					list = append(list, frameAt(m, k, i, at))
+				}
+			}
+			if b.End.Kind == api.Invoke && b.End.F == n {
+				list = append(list, frameAt(m, k, i, len(b.Ins)))
+			}
+		}
+	}
+	return list
+}
+
+// tower of up to so many frames, the one on top at the beginning of a block, each other one at a Call or an Invoke, which one number chooses.
+func tower(m api.Module, top api.Frame, height, number int) []api.Frame {
+	list := []api.Frame{top}
+	for len(list) < height {
+		below := calling(m, list[0].F)
+		if len(below) == 0 {
+			break
+		}
+		list = slices.Insert(list, 0, below[number%len(below)])
+		number = number/2 + 1
+	}
+	return list
+}
+
+// Machines, whatever they run: the top frame at each block, those to which none comes, too, and below it any that may stand there.
+func TestTowers(t *testing.T) {
+	var c seen
+	for seed := range 1000 {
+		m := modules(uint64(seed))
+		for n, f := range m.Funcs {
+			for block := range f.Blocks {
+				stack := tower(m, frameAt(m, n, block, 0), 1+seed%5, seed/5+block)
+				c.steps(t, m, api.Mach{Stack: stack, Cells: [16]uint16{1, 2, 15: 3}, Inputs: inputs})
+			}
+		}
+	}
+	if min(c.thrown, c.past, c.landed, c.told, c.written, c.still, c.kept) < 200 {
+		t.Errorf("%+v", c)
+	}
+}

@@ -1,0 +1,186 @@
+package throws
+
+import (
+	"slices"
+	"testing"
+
+	"davit/api"
+	"davit/made"
+)
+
+// web is who does a thing itself, and from whom to whom it comes by a call, by the chapter's words.
+type web struct {
+	itself []bool
+	comes  [][]bool // from the one called, by number, to the one that calls
+}
+
+// webOf a module; passes tells whether the thing comes out of a function that is invoked with this pad.
+func webOf(m api.Module, itself func(b api.Block) bool, passes func(p api.Pad) bool) web {
+	w := web{make([]bool, len(m.Funcs)), make([][]bool, len(m.Funcs))}
+	for n := range m.Funcs {
+		w.comes[n] = make([]bool, len(m.Funcs))
+	}
+	for n, f := range m.Funcs {
+		for _, b := range f.Blocks {
+			if itself(b) {
+				w.itself[n] = true
+			}
+			for _, x := range b.Ins {
+				if x.Op == api.Call {
+					w.comes[x.F][n] = true
+				}
+			}
+			if b.End.Kind == api.Invoke && passes(f.Blocks[b.End.Pad].Pad) {
+				w.comes[b.End.F][n] = true
+			}
+		}
+	}
+	return w
+}
+
+// all that do it: it is carried from each one that does it itself, as far as it comes.
+func (w web) all() []bool {
+	list := make([]bool, len(w.itself))
+	for n, itself := range w.itself {
+		if itself {
+			w.carry(n, list)
+		}
+	}
+	return list
+}
+
+func (w web) carry(n int, list []bool) {
+	if list[n] {
+		return
+	}
+	list[n] = true
+	for caller, comes := range w.comes[n] {
+		if comes {
+			w.carry(caller, list)
+		}
+	}
+}
+
+func has(b api.Block, op int) bool {
+	return slices.ContainsFunc(b.Ins, func(x api.Ins) bool { return x.Op == op })
+}
+
+// webs for what is thrown, told and written.
+func webs(m api.Module) [3]web {
+	always := func(api.Pad) bool { return true }
+	return [3]web{
+		webOf(m, func(b api.Block) bool { return b.End.Kind == api.Throw || b.End.Kind == api.Resume }, func(p api.Pad) bool { return !p.All }),
+		webOf(m, func(b api.Block) bool { return has(b, api.Out) || has(b, api.In) }, always),
+		webOf(m, func(b api.Block) bool { return has(b, api.Store) }, always),
+	}
+}
+
+// tally of a call: functions that do it themselves, others that do it, those that don't.
+type tally [3]struct{ itself, by, not int }
+
+func (c *tally) check(t *testing.T, m api.Module) {
+	t.Helper()
+	got := three(m)
+	for i, w := range webs(m) {
+		list := w.all()
+		if want := digits(list); got[i] != want {
+			t.Fatalf("%+v: %s is %s, not %s", m, []string{"Out", "Tells", "Writes"}[i], got[i], want)
+		}
+		for n, is := range list {
+			switch {
+			case w.itself[n]:
+				c[i].itself++
+			case is:
+				c[i].by++
+			default:
+				c[i].not++
+			}
+		}
+	}
+}
+
+func (c *tally) atLeast(t *testing.T, least int) {
+	t.Helper()
+	for _, of := range c {
+		if min(of.itself, of.by, of.not) < least {
+			t.Errorf("%+v", c)
+		}
+	}
+}
+
+// bit of a number.
+func bit(number, n int) bool { return number>>n&1 == 1 }
+
+// doing is a function that throws, tells and writes itself, or not.
+func doing(throw, tell, write bool) api.Func {
+	f := api.Func{Regs: 1, Blocks: []api.Block{{End: api.End{Kind: api.Ret}}}}
+	b := &f.Blocks[0]
+	if throw {
+		b.End.Kind = api.Throw
+	}
+	if tell {
+		b.Ins = append(b.Ins, api.Ins{Op: api.In})
+	}
+	if write {
+		b.Ins = append(b.Ins, api.Ins{Op: api.Store})
+	}
+	return f
+}
+
+// call puts a call of function n into the function, changed: 0 none, 1 a Call, 2 an Invoke whose pad has not All, 3 one whose pad has.
+func call(f *api.Func, n, how int) {
+	goal := len(f.Blocks)
+	switch how {
+	case 1:
+		f.Blocks = append(f.Blocks, api.Block{Ins: []api.Ins{{Op: api.Call, F: n}}, End: api.End{Kind: api.Ret}})
+	case 2, 3:
+		pad := api.Pad{Cleanup: n == 0, Catch: []uint16{uint16(n)}, All: how == 3}
+		f.Blocks = append(f.Blocks,
+			api.Block{End: api.End{Kind: api.Invoke, F: n, To: goal, Pad: goal + 1}},
+			api.Block{Landing: true, Pad: pad, End: api.End{Kind: api.Ret}})
+	}
+}
+
+// some module of so many functions: of each which calls which how, by the digits of one number, and who does what itself, by the bits of another one.
+func some(count, ways int, hows []int, doers int) api.Module {
+	m := api.Module{Funcs: make([]api.Func, count)}
+	for n := range m.Funcs {
+		// By odd factors each of the three is done by any of the functions alone and together, as doers goes through all.
+		f := doing(bit(doers, n), bit(doers*3, n), bit(doers*5+1, n))
+		for k := range count {
+			call(&f, k, hows[ways%len(hows)])
+			ways /= len(hows)
+		}
+		m.Funcs[n] = f
+	}
+	return m
+}
+
+func power(base, exponent int) int {
+	n := 1
+	for range exponent {
+		n *= base
+	}
+	return n
+}
+
+// Every module of up to three functions, by who calls whom how, and who does what itself; of three by Calls, and Invokes whose pads have All, alone.
+func TestEveryModuleOfFewFunctions(t *testing.T) {
+	var c tally
+	for count, hows := range [][]int{1: {0, 1, 2, 3}, 2: {0, 1, 2, 3}, 3: {0, 1, 3}} {
+		for ways := range power(len(hows), count*count) {
+			for doers := range 1 << count {
+				c.check(t, some(count, ways, hows, doers))
+			}
+		}
+	}
+	c.atLeast(t, 10000)
+}
+
+func TestMadeModules(t *testing.T) {
+	var c tally
+	for seed := range uint64(10000) {
+		c.check(t, made.Module(seed))
+	}
+	c.atLeast(t, 500)
+}
