@@ -127,47 +127,6 @@ func TestMachinesFromTheirBeginning(t *testing.T) {
 	}
 }
 
-// frameAt is a frame of function n at this place, with whatever words.
-func frameAt(m api.Module, n, block, at int) api.Frame {
-	f := api.Frame{F: n, Block: block, At: at, Fly: uint16(block)}
-	for place := range m.Funcs[n].Regs {
-		f.Regs = append(f.Regs, []uint16{0, 1, 5, 2, 65535}[(place+block+at)%5])
-	}
-	return f
-}
-
-// calling are frames, one for each Call and Invoke of function n that there is.
-func calling(m api.Module, n int) []api.Frame {
-	var list []api.Frame
-	for k, f := range m.Funcs {
-		for i, b := range f.Blocks {
-			for at, x := range b.Ins {
-				if x.Op == api.Call && x.F == n {
-					list = append(list, frameAt(m, k, i, at))
-				}
-			}
-			if b.End.Kind == api.Invoke && b.End.F == n {
-				list = append(list, frameAt(m, k, i, len(b.Ins)))
-			}
-		}
-	}
-	return list
-}
-
-// tower of up to so many frames, the one on top at the beginning of a block, each other one at a Call or an Invoke, which one number chooses.
-func tower(m api.Module, top api.Frame, height, number int) []api.Frame {
-	list := []api.Frame{top}
-	for len(list) < height {
-		below := calling(m, list[0].F)
-		if len(below) == 0 {
-			break
-		}
-		list = slices.Insert(list, 0, below[number%len(below)])
-		number = number/2 + 1
-	}
-	return list
-}
-
 // Machines, whatever they run: the top frame at each block, those to which none comes, too, and below it any that may stand there.
 func TestTowers(t *testing.T) {
 	var c seen
@@ -175,7 +134,7 @@ func TestTowers(t *testing.T) {
 		m := modules(uint64(seed))
 		for n, f := range m.Funcs {
 			for block := range f.Blocks {
-				stack := tower(m, frameAt(m, n, block, 0), 1+seed%5, seed/5+block)
+				stack := made.Tower(m, made.Frame(m, n, block, 0), 1+seed%5, seed/5+block)
 				c.steps(t, m, api.Mach{Stack: stack, Cells: [16]uint16{1, 2, 15: 3}, Inputs: inputs})
 			}
 		}
