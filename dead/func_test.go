@@ -7,6 +7,7 @@ import (
 
 	"davit/api"
 	"davit/made"
+	"davit/samples"
 )
 
 func TestFunc(t *testing.T) {
@@ -34,7 +35,7 @@ func TestFunc(t *testing.T) {
 		"places stay, used or not":      {"func 0 7 / block / ret 0 / block / ret 6", "func 0 7 / block / ret 0"},
 		"behind a trap, and what is no": {"func 0 1 / block / div 0 0 0 / jump 1 / block / ret 0 / block / div 0 0 0 / ret 0", "func 0 1 / block / div 0 0 0 / jump 1 / block / ret 0"},
 	} {
-		f, want := module(t, c.from).Funcs[0], module(t, c.to).Funcs[0]
+		f, want := samples.Module(c.from).Funcs[0], samples.Module(c.to).Funcs[0]
 		if got := Func(f); !sameFunc(got, want) {
 			t.Errorf("%s: %+v", name, got)
 		}

@@ -1,18 +1,14 @@
 package dead
 
 import (
-	"reflect"
 	"slices"
 	"testing"
 
 	"davit/api"
 	"davit/mach"
 	"davit/made"
+	"davit/runs"
 )
-
-const most = 60 // steps that a machine runs on
-
-var inputs = []uint16{3, 0, 1, 65535, 2, 5, 16, 1, 0}
 
 // names are the new numbers of a module's functions, and of their blocks; -1: it goes.
 type names struct {
@@ -58,14 +54,6 @@ func (c names) twin(s api.Mach) (api.Mach, bool) {
 	return s, true
 }
 
-// alike machines: lists nil or empty alike.
-func alike(a, b api.Mach) bool {
-	if len(a.Stack) != len(b.Stack) || !slices.Equal(a.Inputs, b.Inputs) || !slices.Equal(a.Events, b.Events) {
-		return false
-	}
-	return a.Cells == b.Cells && a.Done == b.Done && a.Value == b.Value && (len(a.Stack) == 0 || reflect.DeepEqual(a.Stack, b.Stack))
-}
-
 // steps of the machine, and of its twin in the module cleared, one by one.
 func (c names) steps(t *testing.T, m, cleared api.Module, s api.Mach) (done int, tried bool) {
 	t.Helper()
@@ -73,7 +61,7 @@ func (c names) steps(t *testing.T, m, cleared api.Module, s api.Mach) (done int,
 	if !is {
 		return 0, false
 	}
-	for step := 0; step < most && s.Done == api.Runs; step++ {
+	for step := 0; step < runs.Most && s.Done == api.Runs; step++ {
 		next, err := mach.Step(m, s)
 		next2, err2 := mach.Step(cleared, other)
 		if err != api.OK || err2 != api.OK {
@@ -83,7 +71,7 @@ func (c names) steps(t *testing.T, m, cleared api.Module, s api.Mach) (done int,
 		if !is {
 			t.Fatalf("%+v: %+v stands where nobody comes to", m, next)
 		}
-		if !alike(next2, want) {
+		if !runs.Alike(next2, want) {
 			t.Fatalf("%+v: %+v goes on to %+v, not to %+v", cleared, other, next2, want)
 		}
 		s, other = next, next2
@@ -95,7 +83,7 @@ func (c names) steps(t *testing.T, m, cleared api.Module, s api.Mach) (done int,
 func TestMachinesFromTheirBeginning(t *testing.T) {
 	var ends [api.NoInput + 1]int
 	for seed := range uint64(8000) {
-		m, told := made.Module(seed), inputs[:seed%10]
+		m, told := made.Module(seed), runs.Inputs()[:seed%10]
 		s, _ := mach.New(m, told)
 		cleared, _ := Module(m)
 		done, tried := namesIn(m).steps(t, m, cleared, s)
@@ -126,7 +114,7 @@ func TestTowers(t *testing.T) {
 		for n, f := range m.Funcs {
 			for block := range f.Blocks {
 				stack := made.Tower(m, made.Frame(m, n, block, 0), 1+seed%4, seed/4+block)
-				if _, is := called.steps(t, m, cleared, api.Mach{Stack: stack, Cells: [16]uint16{1, 2, 15: 3}, Inputs: inputs}); is {
+				if _, is := called.steps(t, m, cleared, runs.From(stack)); is {
 					heights[len(stack)]++
 				}
 			}

@@ -1,26 +1,14 @@
 package dead
 
 import (
-	"math"
 	"slices"
-	"strings"
 	"testing"
 
 	"davit/api"
 	"davit/made"
-	"davit/read"
+	"davit/samples"
 	"davit/shape"
 )
-
-// module of a text whose lines stand with a stroke between.
-func module(t *testing.T, text string) api.Module {
-	t.Helper()
-	m, err, line := read.Read(strings.ReplaceAll(text, " / ", "\n") + "\n")
-	if err != api.OK {
-		t.Fatalf("%q: %v in line %d", text, err, line)
-	}
-	return m
-}
 
 const (
 	answers = " / func 0 1 / block / ret 0"
@@ -53,8 +41,8 @@ func TestModule(t *testing.T) {
 		"arguments stay":                {"func 0 3 / block / call 0 2 1 2 / invoke 1 2 0 1 2 1 / pad 0 all / ret 0" + answers + " / func 2 3 / block / add 2 0 1 / ret 2", "func 0 3 / block / call 0 1 1 2 / invoke 1 1 0 1 2 1 / pad 0 all / ret 0 / func 2 3 / block / add 2 0 1 / ret 2"},
 		"no other number is a function": {"func 0 4 / block / const 3 3 / copy 3 2 / store 3 2 / out 3 / call 3 3 / branch 3 0 0" + throws + throws + tells, "func 0 4 / block / const 3 3 / copy 3 2 / store 3 2 / out 3 / call 3 1 / branch 3 0 0" + tells},
 	} {
-		got, err := Module(module(t, c.from))
-		if err != api.OK || !shape.Same(got, module(t, c.to)) {
+		got, err := Module(samples.Module(c.from))
+		if err != api.OK || !shape.Same(got, samples.Module(c.to)) {
 			t.Errorf("%s: %v, %+v", name, err, got)
 		}
 	}
@@ -176,18 +164,11 @@ func TestTheGreatestModules(t *testing.T) {
 	}
 }
 
-// wide has each Op and each Kind, in two functions, and much that goes.
-func wide(t *testing.T) api.Module {
-	t.Helper()
-	return module(t, "func 0 4 / block / const 0 7 / copy 1 0 / add 2 0 1 / div 2 0 1 / load 2 1 / store 1 2 / call 3 2 0 2 / out 3 / in 3 / invoke 3 2 2 4 0 2"+
-		" / block / branch 3 2 2 / block / ret 3 / pad 3 catch 5 65535 / jump 1 / pad 2 all / throw 2 / pad 1 cleanup / call 1 1 / resume"+
-		" / func 0 1 / block / ret 0 / func 2 2 / block / invoke 0 0 1 2 / block / ret 0 / pad 0 catch 1 all cleanup / throw 0 / block / ret 1")
-}
-
 func TestWide(t *testing.T) {
-	got, err := Module(wide(t))
-	want := module(t, "func 0 4 / block / const 0 7 / copy 1 0 / add 2 0 1 / div 2 0 1 / load 2 1 / store 1 2 / call 3 1 0 2 / out 3 / in 3 / invoke 3 1 1 2 0 2"+
-		" / block / ret 3 / pad 2 all / throw 2 / func 2 2 / block / invoke 0 0 1 2 / block / ret 0 / pad 0 catch 1 all cleanup / throw 0")
+	got, err := Module(samples.Wide())
+	want := samples.Module("func 0 4 / block / const 0 7 / copy 1 0 / add 2 0 1 / div 2 0 1 / load 2 1 / store 1 2 / call 3 2 0 2 / out 3 / in 3 / sub 2 2 0 / mul 2 2 2 / eq 2 2 1 / lt 2 1 2" +
+		" / invoke 3 2 1 2 0 2 / block / ret 3 / pad 2 all / throw 2" + answers +
+		" / func 2 2 / block / invoke 0 1 1 2 / block / invoke 0 0 3 2 / pad 0 catch 1 all cleanup / throw 0 / block / ret 0")
 	if err != api.OK || !shape.Same(got, want) {
 		t.Errorf("%v, %+v", err, got)
 	}
@@ -195,43 +176,7 @@ func TestWide(t *testing.T) {
 
 // A module that may not be stays as it is, though blocks and functions could go.
 func TestWhatMayNotBe(t *testing.T) {
-	for name, change := range map[string]func(m *api.Module){
-		"no function":             func(m *api.Module) { m.Funcs = nil },
-		"an empty list":           func(m *api.Module) { m.Funcs = []api.Func{} },
-		"a function without any":  func(m *api.Module) { m.Funcs[1] = api.Func{} },
-		"too many functions":      func(m *api.Module) { m.Funcs = append(m.Funcs, slices.Repeat(m.Funcs[1:2], api.MaxFuncs-2)...) },
-		"very many functions":     func(m *api.Module) { m.Funcs = append(m.Funcs, slices.Repeat(m.Funcs[1:2], 100000)...) },
-		"arguments of function 0": func(m *api.Module) { m.Funcs[0].Params = 1 },
-		"too many places":         func(m *api.Module) { m.Funcs[1].Regs = api.MaxRegs + 1 },
-		"no place":                func(m *api.Module) { m.Funcs[1].Regs = 0 },
-		"no block":                func(m *api.Module) { m.Funcs[1].Blocks = nil },
-		"too many blocks":         func(m *api.Module) { m.Funcs[1].Blocks = slices.Repeat(m.Funcs[1].Blocks, api.MaxBlocks+1) },
-		"too many instructions":   func(m *api.Module) { m.Funcs[1].Blocks[0].Ins = slices.Repeat([]api.Ins{{Op: api.In}}, api.MaxIns+1) },
-		"the first one Landing":   func(m *api.Module) { m.Funcs[0].Blocks[0] = m.Funcs[0].Blocks[4] },
-		"wrong in a block that goes": func(m *api.Module) {
-			m.Funcs[0].Blocks[1].End.A = 4
-		},
-		"wrong in a function that goes":    func(m *api.Module) { m.Funcs[1].Blocks[0].End.A = 1 },
-		"no such function called":          func(m *api.Module) { m.Funcs[0].Blocks[0].Ins[6].F = 3 },
-		"one below 0 called":               func(m *api.Module) { m.Funcs[0].Blocks[0].Ins[6].F = -1 },
-		"none called in one that goes":     func(m *api.Module) { m.Funcs[0].Blocks[5].Ins[0].F = math.MaxInt },
-		"no such function invoked":         func(m *api.Module) { m.Funcs[2].Blocks[0].End.F = 3 },
-		"one below 0 invoked":              func(m *api.Module) { m.Funcs[2].Blocks[0].End.F = math.MinInt },
-		"too few Args":                     func(m *api.Module) { m.Funcs[0].Blocks[0].Ins[6].Args = []int{1} },
-		"no such goal":                     func(m *api.Module) { m.Funcs[0].Blocks[0].End.To = 6 },
-		"no such goal of one that goes":    func(m *api.Module) { m.Funcs[0].Blocks[1].End.Else = -1 },
-		"no such Pad":                      func(m *api.Module) { m.Funcs[2].Blocks[0].End.Pad = 4 },
-		"a Pad that isn't Landing":         func(m *api.Module) { m.Funcs[2].Blocks[0].End.Pad = 1 },
-		"a goal that is Landing":           func(m *api.Module) { m.Funcs[2].Blocks[0].End.To = 2 },
-		"a pad that does nothing":          func(m *api.Module) { m.Funcs[2].Blocks[2].Pad = api.Pad{} },
-		"a pad of no Landing one":          func(m *api.Module) { m.Funcs[2].Blocks[1].Pad.All = true },
-		"no such Op":                       func(m *api.Module) { m.Funcs[0].Blocks[0].Ins[0].Op = 14 },
-		"no such Kind":                     func(m *api.Module) { m.Funcs[0].Blocks[2].End.Kind = 7 },
-		"what isn't used":                  func(m *api.Module) { m.Funcs[0].Blocks[2].End.Pad = 4 },
-		"what isn't used in one that goes": func(m *api.Module) { m.Funcs[0].Blocks[1].End.Pad = 4 },
-	} {
-		m := wide(t)
-		change(&m)
+	for name, m := range samples.Wrong() {
 		if got, err := Module(m); err != api.ErrArg || !shape.Same(got, m) {
 			t.Errorf("%s: %v, %+v", name, err, got)
 		}

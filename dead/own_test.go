@@ -6,6 +6,7 @@ import (
 	"davit/api"
 	"davit/kept"
 	"davit/made"
+	"davit/samples"
 	"davit/shape"
 )
 
@@ -24,11 +25,10 @@ func clears() map[string]func(m api.Module) api.Module {
 }
 
 // several modules: such that may be and such that may not, whose functions are cleared or stay.
-func several(t *testing.T) []api.Module {
-	t.Helper()
-	wrong := wide(t)
+func several() []api.Module {
+	wrong := samples.Wide()
 	wrong.Funcs[1].Blocks[0].End.A = 1
-	list := []api.Module{{}, {Funcs: []api.Func{{}}}, wide(t), wrong, {Funcs: []api.Func{ended(made.Jump(9)), ended(made.Jump(2))}}}
+	list := []api.Module{{}, {Funcs: []api.Func{{}}}, samples.Wide(), wrong, {Funcs: []api.Func{ended(made.Jump(9)), ended(made.Jump(2))}}}
 	for seed := range uint64(300) {
 		list = append(list, made.Module(seed), made.Callers(seed, int(seed%9)), api.Module{Funcs: []api.Func{made.Func(seed), made.Func(seed + 1)}})
 	}
@@ -36,7 +36,7 @@ func several(t *testing.T) []api.Module {
 }
 
 func TestWhatIsHandedInIsNotChanged(t *testing.T) {
-	for n, m := range several(t) {
+	for n, m := range several() {
 		for name, call := range clears() {
 			if !kept.Module(m, func(m api.Module) { call(m) }) {
 				t.Fatalf("%s, module %d: it is changed", name, n)
@@ -46,7 +46,7 @@ func TestWhatIsHandedInIsNotChanged(t *testing.T) {
 }
 
 func TestAnswersAreNewMemory(t *testing.T) {
-	for n, m := range several(t) {
+	for n, m := range several() {
 		for name, call := range clears() {
 			if !kept.New(m, call) {
 				t.Fatalf("%s, module %d: the answer shares memory", name, n)
@@ -57,7 +57,7 @@ func TestAnswersAreNewMemory(t *testing.T) {
 
 // The answer is the same each time.
 func TestTheSameEachTime(t *testing.T) {
-	for n, m := range several(t) {
+	for n, m := range several() {
 		for name, call := range clears() {
 			want := call(m)
 			for range 3 {

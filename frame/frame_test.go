@@ -7,6 +7,7 @@ import (
 	"testing"
 
 	"davit/api"
+	"davit/runs"
 	"davit/shape"
 )
 
@@ -72,11 +73,6 @@ func words(count int) []uint16 {
 		list[i] = uint16(40000 + 7*i)
 	}
 	return list
-}
-
-// sameFrame is with nil and empty lists alike.
-func sameFrame(a, b api.Frame) bool {
-	return a.F == b.F && a.Block == b.Block && a.At == b.At && a.Fly == b.Fly && slices.Equal(a.Regs, b.Regs)
 }
 
 // allRight calls do with each frame that the module may have, but for the words in it.
@@ -189,7 +185,7 @@ func TestAFrameWithoutPlaces(t *testing.T) {
 		t.Error("Right of no place")
 	}
 	for _, args := range [][]uint16{nil, {}} {
-		if f, err := New(m, 0, args); err != api.OK || !sameFrame(f, api.Frame{}) {
+		if f, err := New(m, 0, args); err != api.OK || !runs.AlikeFrames(f, api.Frame{}) {
 			t.Error(f, err)
 		}
 	}
@@ -218,7 +214,7 @@ func TestTheGreatestFrame(t *testing.T) {
 		}
 	}
 	f, err := New(m, 15, words(8))
-	if err != api.OK || !sameFrame(f, api.Frame{F: 15, Regs: append(words(8), make([]uint16, 248)...)}) {
+	if err != api.OK || !runs.AlikeFrames(f, api.Frame{F: 15, Regs: append(words(8), make([]uint16, 248)...)}) {
 		t.Error(f, err)
 	}
 }
@@ -238,7 +234,7 @@ func TestNew(t *testing.T) {
 		{"as many arguments as places", 3, []uint16{8, 7, 6, 5, 4, 3, 2, 1}, []uint16{8, 7, 6, 5, 4, 3, 2, 1}},
 	} {
 		f, err := New(m, c.f, c.args)
-		if err != api.OK || !sameFrame(f, api.Frame{F: c.f, Block: 0, At: 0, Regs: c.regs, Fly: 0}) {
+		if err != api.OK || !runs.AlikeFrames(f, api.Frame{F: c.f, Block: 0, At: 0, Regs: c.regs, Fly: 0}) {
 			t.Errorf("%s: %+v, %v", c.name, f, err)
 		}
 		if !Right(m, f) {

@@ -5,6 +5,7 @@ import (
 	"testing"
 
 	"davit/api"
+	"davit/runs"
 )
 
 func TestCatches(t *testing.T) {
@@ -68,7 +69,7 @@ func TestLand(t *testing.T) {
 				got, err := Land(m, f, pad, w)
 				dst, lands := pads[[2]int{f.F, pad}]
 				if !lands {
-					if err != api.ErrArg || !sameFrame(got, f) {
+					if err != api.ErrArg || !runs.AlikeFrames(got, f) {
 						t.Errorf("%+v at %d: %+v, %v", f, pad, got, err)
 					}
 					continue
@@ -76,7 +77,7 @@ func TestLand(t *testing.T) {
 				landed++
 				want := api.Frame{F: f.F, Block: pad, At: 0, Regs: words(len(f.Regs)), Fly: w}
 				want.Regs[dst] = w
-				if err != api.OK || !sameFrame(got, want) {
+				if err != api.OK || !runs.AlikeFrames(got, want) {
 					t.Errorf("%+v at %d: %+v, %v; not %+v", f, pad, got, err, want)
 				}
 			}
@@ -91,7 +92,7 @@ func TestNoLandingFarOff(t *testing.T) {
 	m := example()
 	for _, pad := range append([]int{8, 63, 64, 1<<32 + 2, 65536 + 2, 256 + 2}, farNumbers...) {
 		allRight(m, func(f api.Frame) {
-			if got, err := Land(m, f, pad, 5); err != api.ErrArg || !sameFrame(got, f) {
+			if got, err := Land(m, f, pad, 5); err != api.ErrArg || !runs.AlikeFrames(got, f) {
 				t.Errorf("%+v at %d: %+v, %v", f, pad, got, err)
 			}
 		})
@@ -102,7 +103,7 @@ func TestNoLandingOfAFrameThatMayNotBe(t *testing.T) {
 	m := example()
 	refused := func(m api.Module, f api.Frame, pad int) {
 		t.Helper()
-		if got, err := Land(m, f, pad, 5); err != api.ErrArg || !sameFrame(got, f) {
+		if got, err := Land(m, f, pad, 5); err != api.ErrArg || !runs.AlikeFrames(got, f) {
 			t.Errorf("%+v at %d: %+v, %v", f, pad, got, err)
 		}
 	}
@@ -142,7 +143,7 @@ func TestLandAtAPadThatDoesNotCatch(t *testing.T) {
 			t.Fatalf("pad %d catches it", pad)
 		}
 		got, err := Land(m, f, pad, 6)
-		if err != api.OK || !sameFrame(got, api.Frame{Block: pad, Regs: want, Fly: 6}) {
+		if err != api.OK || !runs.AlikeFrames(got, api.Frame{Block: pad, Regs: want, Fly: 6}) {
 			t.Errorf("pad %d: %+v, %v", pad, got, err)
 		}
 	}

@@ -6,6 +6,7 @@ import (
 	"testing"
 
 	"davit/api"
+	"davit/runs"
 	"davit/shape"
 	"davit/word"
 )
@@ -58,7 +59,7 @@ func TestStepByStep(t *testing.T) {
 	}
 	for at, want := range [][]uint16{{9, 65535, 2, 0, 1}, {1, 65535, 2, 0, 1}} {
 		var ok bool
-		if f, ok = Reckon(f, m.Funcs[2].Blocks[0].Ins[at]); !ok || !sameFrame(f, api.Frame{F: 2, At: at + 1, Regs: want}) {
+		if f, ok = Reckon(f, m.Funcs[2].Blocks[0].Ins[at]); !ok || !runs.AlikeFrames(f, api.Frame{F: 2, At: at + 1, Regs: want}) {
 			t.Fatal(at, f, ok)
 		}
 	}

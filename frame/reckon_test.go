@@ -6,6 +6,7 @@ import (
 	"testing"
 
 	"davit/api"
+	"davit/runs"
 	"davit/word"
 )
 
@@ -27,7 +28,7 @@ func reckons(t *testing.T, f api.Frame, x api.Ins, n uint16) {
 	t.Helper()
 	want := api.Frame{F: f.F, Block: f.Block, At: f.At + 1, Regs: slices.Clone(f.Regs), Fly: f.Fly}
 	want.Regs[x.Dst] = n
-	if got, ok := Reckon(f, x); !ok || !sameFrame(got, want) {
+	if got, ok := Reckon(f, x); !ok || !runs.AlikeFrames(got, want) {
 		t.Errorf("%+v of %+v: %+v, %v; not %+v, true", x, f, got, ok, want)
 	}
 }
@@ -37,7 +38,7 @@ func staysAs(t *testing.T, f api.Frame, x api.Ins) {
 	t.Helper()
 	want := f
 	want.Regs = slices.Clone(f.Regs)
-	if got, ok := Reckon(f, x); ok || !sameFrame(got, want) {
+	if got, ok := Reckon(f, x); ok || !runs.AlikeFrames(got, want) {
 		t.Errorf("%+v of %+v: %+v, %v; not %+v, false", x, f, got, ok, want)
 	}
 }
@@ -178,7 +179,7 @@ func TestGo(t *testing.T) {
 		for _, block := range append([]int{-1, 0, 1, 2, 3, 63, 64}, farNumbers...) {
 			t.Run(fmt.Sprint(block), func(t *testing.T) {
 				want := api.Frame{F: f.F, Block: block, At: 0, Regs: slices.Clone(f.Regs), Fly: f.Fly}
-				if got := Go(f, block); !sameFrame(got, want) {
+				if got := Go(f, block); !runs.AlikeFrames(got, want) {
 					t.Errorf("%+v: %+v", f, got)
 				}
 			})

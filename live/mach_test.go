@@ -7,15 +7,14 @@ import (
 	"davit/api"
 	"davit/mach"
 	"davit/made"
+	"davit/runs"
 )
-
-const most = 60 // steps that a machine runs on
 
 // run on: the machine, and those behind each step, till it ends.
 func run(t *testing.T, m api.Module, s api.Mach) []api.Mach {
 	t.Helper()
 	list := []api.Mach{s}
-	for len(list) <= most && s.Done == api.Runs {
+	for len(list) <= runs.Most && s.Done == api.Runs {
 		next, err := mach.Step(m, s)
 		if err != api.OK {
 			t.Fatalf("%+v may not be: %v", s, err)
@@ -105,8 +104,6 @@ func atAll(m api.Module) [][][]bool {
 	return list
 }
 
-var inputs = []uint16{3, 0, 1, 65535, 2, 5, 16, 1, 0}
-
 // lands: does the top frame stand at a Landing block?
 func lands(m api.Module, s api.Mach) bool {
 	top := s.Stack[len(s.Stack)-1]
@@ -119,7 +116,7 @@ func TestMachinesThatRun(t *testing.T) {
 	for seed := range uint64(8000) {
 		m := made.Module(seed)
 		at := atAll(m)
-		s, _ := mach.New(m, inputs)
+		s, _ := mach.New(m, runs.Inputs())
 		for step := 0; step < 40 && s.Done == api.Runs; step++ {
 			if s.Stack[len(s.Stack)-1].At == 0 && (step < 12 && seed < 1500 || lands(m, s)) {
 				c.try(t, m, at, run(t, m, s))
@@ -145,8 +142,7 @@ func TestMachinesAtEachBlock(t *testing.T) {
 				for place := range f.Regs {
 					top.Regs = append(top.Regs, uint16(seed)%5*uint16(place+block))
 				}
-				s := api.Mach{Stack: []api.Frame{top}, Cells: [16]uint16{1, 2, 15: 3}, Inputs: inputs}
-				c.try(t, m, at, run(t, m, s))
+				c.try(t, m, at, run(t, m, runs.From([]api.Frame{top})))
 			}
 		}
 	}

@@ -4,27 +4,17 @@ import (
 	"math"
 	"reflect"
 	"slices"
-	"strings"
 	"testing"
 
 	"davit/api"
 	"davit/frame"
-	"davit/read"
+	"davit/runs"
+	"davit/samples"
 	"davit/shape"
 )
 
 // Numbers far from any that is right, some of which would be right if they were cut to fewer bits.
 var farNumbers = []int{-1000, -256, 256, 1000, 1 << 16, 1<<16 + 1, 1 << 32, 1<<32 + 1, math.MaxInt, math.MaxInt - 1, math.MinInt, math.MinInt + 1}
-
-// module is that of a text whose lines stand with a / between.
-func module(t *testing.T, text string) api.Module {
-	t.Helper()
-	m, err, line := read.Read(strings.ReplaceAll(text, " / ", "\n") + "\n")
-	if err != api.OK {
-		t.Fatalf("%q: %v in line %d", text, err, line)
-	}
-	return m
-}
 
 // example is a module that calls and invokes: function 0 invokes 1, which calls 2, and 3, that has two arguments.
 const example = "func 0 3 / block / const 0 7 / call 1 3 0 0 / out 1 / invoke 2 1 1 2 0 / block / ret 2 / pad 1 catch 5 65535 / jump 1" +
@@ -33,9 +23,9 @@ const example = "func 0 3 / block / const 0 7 / call 1 3 0 0 / out 1 / invoke 2 
 	" / func 2 4 / block / add 2 0 1 / in 3 / invoke 3 2 1 2 / block / ret 2 / pad 0 all / resume"
 
 // mayNotBe are modules that may not be, each but a little off the example.
-func mayNotBe(t *testing.T) map[string]api.Module {
+func mayNotBe() map[string]api.Module {
 	broken := func(change func(m *api.Module)) api.Module {
-		m := module(t, example)
+		m := samples.Module(example)
 		change(&m)
 		return m
 	}
@@ -52,35 +42,25 @@ func mayNotBe(t *testing.T) map[string]api.Module {
 	}
 }
 
-// sameMach is with nil and empty lists alike.
-func sameMach(a, b api.Mach) bool {
-	return slices.EqualFunc(a.Stack, b.Stack, sameFrame) && a.Cells == b.Cells && slices.Equal(a.Inputs, b.Inputs) &&
-		slices.Equal(a.Events, b.Events) && a.Done == b.Done && a.Value == b.Value
-}
-
-func sameFrame(a, b api.Frame) bool {
-	return a.F == b.F && a.Block == b.Block && a.At == b.At && a.Fly == b.Fly && slices.Equal(a.Regs, b.Regs)
-}
-
 func TestNew(t *testing.T) {
-	m := module(t, example)
+	m := samples.Module(example)
 	for _, inputs := range [][]uint16{nil, {}, {7}, {0, 65535, 3}} {
 		want := api.Mach{Stack: []api.Frame{{Regs: []uint16{0, 0, 0}}}, Inputs: inputs}
-		if s, err := New(m, inputs); err != api.OK || !sameMach(s, want) || !Right(m, s) {
+		if s, err := New(m, inputs); err != api.OK || !runs.Alike(s, want) || !Right(m, s) {
 			t.Errorf("%v: %+v, %v", inputs, s, err)
 		}
 	}
-	least := module(t, "func 0 0 / block / resume")
-	if s, err := New(least, nil); err != api.OK || !sameMach(s, api.Mach{Stack: []api.Frame{{}}}) {
+	least := samples.Module("func 0 0 / block / resume")
+	if s, err := New(least, nil); err != api.OK || !runs.Alike(s, api.Mach{Stack: []api.Frame{{}}}) {
 		t.Error(s, err)
 	}
 }
 
 func TestModulesThatMayNotBe(t *testing.T) {
-	may, _ := New(module(t, example), []uint16{3})
+	may, _ := New(samples.Module(example), []uint16{3})
 	done := Copy(may)
 	done.Done = api.Answered
-	for name, m := range mayNotBe(t) {
+	for name, m := range mayNotBe() {
 		if shape.Right(m) {
 			t.Fatalf("%s: the module may be", name)
 		}
@@ -105,7 +85,7 @@ func TestModulesThatMayNotBe(t *testing.T) {
 func stays(t *testing.T, m api.Module, s api.Mach, err api.Errno) {
 	t.Helper()
 	want := Copy(s)
-	if got, e := Step(m, s); e != err || !sameMach(got, want) {
+	if got, e := Step(m, s); e != err || !runs.Alike(got, want) {
 		t.Errorf("a step of %+v: %+v, %v", want, got, e)
 	}
 }
@@ -120,7 +100,7 @@ func at(m api.Module, f, block, at int) api.Frame {
 }
 
 func TestHowItEndedByTheEdges(t *testing.T) {
-	m := module(t, example)
+	m := samples.Module(example)
 	one := []api.Frame{at(m, 0, 0, 0)}
 	for done := -3; done <= 9; done++ {
 		if got := Right(m, api.Mach{Stack: one, Done: done}); got != (done >= 0 && done <= 6) {
@@ -150,7 +130,7 @@ func TestHowItEndedByTheEdges(t *testing.T) {
 
 // Nothing is asked of what a machine has beside its frames and Done.
 func TestAnyCellsInputsEventsAndValue(t *testing.T) {
-	m := module(t, example)
+	m := samples.Module(example)
 	for done := range 7 {
 		s := api.Mach{Stack: []api.Frame{at(m, 0, 1, 0)}, Inputs: []uint16{0, 65535}, Events: []int{-1, math.MaxInt, math.MinInt}, Done: done, Value: 65535}
 		for i := range s.Cells {
@@ -163,7 +143,7 @@ func TestAnyCellsInputsEventsAndValue(t *testing.T) {
 }
 
 func TestHowManyFrames(t *testing.T) {
-	m := module(t, "func 0 1 / block / call 0 0 / ret 0")
+	m := samples.Module("func 0 1 / block / call 0 0 / ret 0")
 	for done := range 7 {
 		for count := 1; count <= 40; count++ {
 			s := api.Mach{Stack: slices.Repeat([]api.Frame{at(m, 0, 0, 0)}, count), Done: done}
@@ -182,7 +162,7 @@ func TestHowManyFrames(t *testing.T) {
 
 // A frame that may not be is refused wherever it stands, whether the machine Runs or not.
 func TestFramesThatMayNotBe(t *testing.T) {
-	m := module(t, example)
+	m := samples.Module(example)
 	stack := []api.Frame{at(m, 0, 0, 3), at(m, 1, 0, 0), at(m, 2, 0, 1)}
 	for done := range 7 {
 		if !Right(m, api.Mach{Stack: stack, Done: done}) {
@@ -242,7 +222,7 @@ func calledAt(f, block, at int) int {
 }
 
 func TestWhereALowerFrameStands(t *testing.T) {
-	m := module(t, example)
+	m := samples.Module(example)
 	var frames []api.Frame
 	for n, f := range m.Funcs {
 		for i, b := range f.Blocks {
@@ -284,7 +264,7 @@ func TestWhereALowerFrameStands(t *testing.T) {
 
 // An end that isn't an Invoke has F 0, as a call of function 0 has.
 func TestOtherEndsAreNoInvokesOfTheFirst(t *testing.T) {
-	m := module(t, "func 0 1 / block / const 0 1 / invoke 0 0 1 2 / block / ret 0 / pad 0 all / jump 3 / block / branch 0 1 4 / block / throw 0 / pad 0 cleanup / resume")
+	m := samples.Module("func 0 1 / block / const 0 1 / invoke 0 0 1 2 / block / ret 0 / pad 0 all / jump 3 / block / branch 0 1 4 / block / throw 0 / pad 0 cleanup / resume")
 	for block := range m.Funcs[0].Blocks {
 		for x := range len(m.Funcs[0].Blocks[block].Ins) + 1 {
 			s := api.Mach{Stack: []api.Frame{at(m, 0, block, x), at(m, 0, 0, 0)}}

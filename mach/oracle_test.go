@@ -6,6 +6,7 @@ import (
 
 	"davit/api"
 	"davit/made"
+	"davit/runs"
 	"davit/shape"
 )
 
@@ -205,7 +206,7 @@ func TestRunsAreTheOracles(t *testing.T) {
 			if less, _ := Run(m, madeInputs, w.steps-1); less.Done != api.Runs {
 				t.Fatalf("seed %d: %d steps are too many", seed, w.steps)
 			}
-			if just, _ := Run(m, madeInputs, w.steps); !sameMach(just, s) {
+			if just, _ := Run(m, madeInputs, w.steps); !runs.Alike(just, s) {
 				t.Fatalf("seed %d: %d steps are too few", seed, w.steps)
 			}
 		}
@@ -226,14 +227,14 @@ func TestStepByStep(t *testing.T) {
 			if !Right(m, s) {
 				t.Fatalf("seed %d: behind %d steps it may not be: %+v", seed, fuel, s)
 			}
-			if run, err := Run(m, madeInputs, fuel); err != api.OK || !sameMach(run, s) {
+			if run, err := Run(m, madeInputs, fuel); err != api.OK || !runs.Alike(run, s) {
 				t.Fatalf("seed %d: behind %d steps %+v, %v; not %+v", seed, fuel, run, err, s)
 			}
 			next, err := Step(m, s)
 			if err != api.OK || len(next.Events) > len(s.Events)+1 || len(next.Events) < len(s.Events) || !slices.Equal(next.Events[:len(s.Events)], s.Events) {
 				t.Fatalf("seed %d: a step of %+v: %+v, %v", seed, s, next, err)
 			}
-			if s.Done != api.Runs && !sameMach(next, s) {
+			if s.Done != api.Runs && !runs.Alike(next, s) {
 				t.Fatalf("seed %d: %+v goes on: %+v", seed, s, next)
 			}
 			s = next

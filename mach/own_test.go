@@ -7,6 +7,8 @@ import (
 
 	"davit/api"
 	"davit/made"
+	"davit/runs"
+	"davit/samples"
 	"davit/shape"
 )
 
@@ -93,7 +95,7 @@ func everyStep(m api.Module) []api.Mach {
 }
 
 func TestAMachineThatIsHandedInIsNotChanged(t *testing.T) {
-	m := module(t, example)
+	m := samples.Module(example)
 	for name, do := range given(m) {
 		s := roomy(m)
 		do(s)
@@ -103,26 +105,26 @@ func TestAMachineThatIsHandedInIsNotChanged(t *testing.T) {
 		}
 	}
 	for i, s := range everyStep(m) {
-		if got, err := Step(m, s); err != api.OK || sameMach(got, s) {
+		if got, err := Step(m, s); err != api.OK || runs.Alike(got, s) {
 			t.Fatalf("%d: no step: %+v, %v", i, got, err)
 		}
 		if again := everyStep(m)[i]; !reflect.DeepEqual(whole(s), whole(again)) {
 			t.Errorf("%d: %+v; not %+v", i, whole(s), whole(again))
 		}
 	}
-	if !shape.Same(m, module(t, example)) {
+	if !shape.Same(m, samples.Module(example)) {
 		t.Error("the module is changed")
 	}
 }
 
 func TestWhatIsAnsweredSharesNoMemory(t *testing.T) {
-	m := module(t, example)
+	m := samples.Module(example)
 	for name, do := range given(m) {
 		s := roomy(m)
 		got := do(s)
 		want := do(roomy(m))
 		scratch(s)
-		if !sameMach(got, want) {
+		if !runs.Alike(got, want) {
 			t.Errorf("%s: what is written to the machine stands in the answer: %+v", name, got)
 		}
 		s = roomy(m)
@@ -135,7 +137,7 @@ func TestWhatIsAnsweredSharesNoMemory(t *testing.T) {
 		got, _ := Step(m, s)
 		want, _ := Step(m, everyStep(m)[i])
 		scratch(s)
-		if !sameMach(got, want) {
+		if !runs.Alike(got, want) {
 			t.Errorf("%d: what is written to the machine stands in the answer: %+v", i, got)
 		}
 		s = everyStep(m)[i]
@@ -149,7 +151,7 @@ func TestWhatIsAnsweredSharesNoMemory(t *testing.T) {
 
 // Two frames of an answer have their places apart, even where they were handed in as one list.
 func TestFramesShareNoPlaces(t *testing.T) {
-	m := module(t, "func 0 1 / block / call 0 0 / const 0 3 / ret 0")
+	m := samples.Module("func 0 1 / block / call 0 0 / const 0 3 / ret 0")
 	f := at(m, 0, 0, 0)
 	s := Copy(api.Mach{Stack: []api.Frame{f, f, f}})
 	s.Stack[0].Regs[0] = 1
@@ -165,14 +167,14 @@ func TestFramesShareNoPlaces(t *testing.T) {
 }
 
 func TestCopyIsTheSame(t *testing.T) {
-	m := module(t, example)
+	m := samples.Module(example)
 	for _, s := range []api.Mach{
 		roomy(m),
 		{},
 		{Stack: []api.Frame{}, Inputs: []uint16{}, Events: []int{}},
 		{Stack: []api.Frame{{}, {Regs: []uint16{}}, {F: -1, Block: -2, At: -3, Regs: []uint16{1}, Fly: 4}}, Done: 9, Value: 65535},
 	} {
-		if got := Copy(s); !sameMach(got, s) {
+		if got := Copy(s); !runs.Alike(got, s) {
 			t.Errorf("%+v: %+v", s, got)
 		}
 	}
@@ -180,7 +182,7 @@ func TestCopyIsTheSame(t *testing.T) {
 
 // A list of nothing has none of the room of the one handed in, either.
 func TestAnEmptyListIsNotKept(t *testing.T) {
-	m := module(t, "func 0 0 / block / resume")
+	m := samples.Module("func 0 0 / block / resume")
 	for name, do := range map[string]func(s api.Mach) api.Mach{
 		"Copy": Copy,
 		"Step": func(s api.Mach) api.Mach { s, _ = Step(m, s); return s },
@@ -211,7 +213,7 @@ func TestAnEmptyListIsNotKept(t *testing.T) {
 }
 
 func TestInputsAreNotKept(t *testing.T) {
-	m := module(t, "func 0 1 / block / in 0 / in 0 / ret 0")
+	m := samples.Module("func 0 1 / block / in 0 / in 0 / ret 0")
 	for name, do := range map[string]func(inputs []uint16) api.Mach{
 		"New": func(inputs []uint16) api.Mach { s, _ := New(m, inputs); return s },
 		"Run": func(inputs []uint16) api.Mach { s, _ := Run(m, inputs, 1); return s },
@@ -225,7 +227,7 @@ func TestInputsAreNotKept(t *testing.T) {
 		for i := range inputs {
 			inputs[i] += 1000
 		}
-		if !sameMach(got, want) {
+		if !runs.Alike(got, want) {
 			t.Errorf("%s: what is written to the inputs stands in the machine: %+v", name, got)
 		}
 		inputs = []uint16{1, 2, 3, 91, 92}
@@ -252,7 +254,7 @@ func TestMachinesOnTheWayShareNothing(t *testing.T) {
 			s, _ = Step(m, s)
 		}
 		for i := len(kept) - 1; i >= 0; i-- {
-			if !sameMach(kept[i], want[i]) {
+			if !runs.Alike(kept[i], want[i]) {
 				t.Fatalf("seed %d: behind %d steps: %+v; not %+v", seed, i, kept[i], want[i])
 			}
 			scratch(kept[i])

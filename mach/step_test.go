@@ -5,6 +5,8 @@ import (
 	"testing"
 
 	"davit/api"
+	"davit/runs"
+	"davit/samples"
 )
 
 // steps holds one step of a machine against what the chapter says of it.
@@ -15,13 +17,13 @@ func steps(t *testing.T, m api.Module, s, want api.Mach) {
 		t.Fatalf("%+v may not be", s)
 	}
 	got, err := Step(m, s)
-	if err != api.OK || !sameMach(got, want) {
+	if err != api.OK || !runs.Alike(got, want) {
 		t.Errorf("a step of %+v:\n%+v, %v; not\n%+v", given, got, err, want)
 	}
 	if !Right(m, got) {
 		t.Errorf("%+v may not be any more", got)
 	}
-	if !sameMach(s, given) {
+	if !runs.Alike(s, given) {
 		t.Errorf("%+v is now %+v", given, s)
 	}
 }
@@ -56,14 +58,14 @@ func TestReckons(t *testing.T) {
 	for line, want := range map[string]uint16{
 		"const 2 65535": 65535, "copy 2 0": 3, "add 2 0 1": 7, "sub 2 0 1": 65535, "mul 2 0 1": 12, "div 2 1 0": 1, "eq 2 0 1": 0, "lt 2 0 1": 1,
 	} {
-		m := module(t, "func 0 3 / block / "+line+" / ret 0")
+		m := samples.Module("func 0 3 / block / " + line + " / ret 0")
 		s := before(m, 0, 3, 4, 9)
 		steps(t, m, s, after(s, 3, 4, want))
 	}
 }
 
 func TestDivisionByNought(t *testing.T) {
-	m := module(t, "func 0 3 / block / const 0 1 / div 2 0 1 / ret 0")
+	m := samples.Module("func 0 3 / block / const 0 1 / div 2 0 1 / ret 0")
 	for _, n := range []uint16{0, 1, 65535} {
 		ends(t, m, before(m, 1, n, 0, 9), api.NoQuot)
 	}
@@ -72,7 +74,7 @@ func TestDivisionByNought(t *testing.T) {
 }
 
 func TestCells(t *testing.T) {
-	m := module(t, "func 0 3 / block / load 2 1 / store 1 2 / ret 0")
+	m := samples.Module("func 0 3 / block / load 2 1 / store 1 2 / ret 0")
 	for n := range uint16(16) {
 		s := before(m, 0, 3, n, 9)
 		steps(t, m, s, after(s, 3, n, 300+n))
@@ -86,7 +88,7 @@ func TestCells(t *testing.T) {
 		ends(t, m, before(m, 1, 3, n, 9), api.NoCell)
 	}
 	// Into the place that told which cell, and a cell's own number.
-	m = module(t, "func 0 2 / block / load 1 1 / store 1 1 / ret 0")
+	m = samples.Module("func 0 2 / block / load 1 1 / store 1 1 / ret 0")
 	s := before(m, 0, 3, 15)
 	steps(t, m, s, after(s, 3, 315))
 	s = before(m, 1, 3, 15)
@@ -96,7 +98,7 @@ func TestCells(t *testing.T) {
 }
 
 func TestOutAndIn(t *testing.T) {
-	m := module(t, "func 0 2 / block / out 1 / in 1 / ret 0")
+	m := samples.Module("func 0 2 / block / out 1 / in 1 / ret 0")
 	for _, n := range []uint16{0, 1, 300, 65535} {
 		s := before(m, 0, 3, n)
 		want := after(s, 3, n)
@@ -123,7 +125,7 @@ func TestOutAndIn(t *testing.T) {
 }
 
 func TestJumpAndBranch(t *testing.T) {
-	m := module(t, "func 0 2 / block / const 0 1 / jump 2 / block / branch 1 2 0 / block / branch 0 2 2")
+	m := samples.Module("func 0 2 / block / const 0 1 / jump 2 / block / branch 1 2 0 / block / branch 0 2 2")
 	goes := func(s api.Mach, block int) {
 		t.Helper()
 		want := Copy(s)
@@ -147,7 +149,7 @@ func TestJumpAndBranch(t *testing.T) {
 
 // What stands at a block's end counts by At alone: a block without instructions is at its end at once.
 func TestAnEndIsAStep(t *testing.T) {
-	m := module(t, "func 0 1 / block / jump 1 / block / ret 0")
+	m := samples.Module("func 0 1 / block / jump 1 / block / ret 0")
 	s := before(m, 0, 6)
 	s.Stack[0].Block = 1
 	want := Copy(s)
@@ -159,7 +161,7 @@ const calling = "func 0 4 / block / call 1 1 3 2 3 / invoke 2 1 1 2 0 1 2 / bloc
 	" / func 3 5 / block / const 3 8 / ret 2 / block / throw 1 / func 0 0 / block / resume"
 
 func TestCallAndInvoke(t *testing.T) {
-	m := module(t, calling)
+	m := samples.Module(calling)
 	for at, args := range [][]uint16{{13, 12, 13}, {10, 11, 12}} {
 		s := before(m, at, 10, 11, 12, 13)
 		want := Copy(s)
@@ -169,7 +171,7 @@ func TestCallAndInvoke(t *testing.T) {
 }
 
 func TestACallOfNoArgumentsAndNoPlaces(t *testing.T) {
-	m := module(t, "func 0 1 / block / call 0 1 / ret 0 / func 0 0 / block / resume")
+	m := samples.Module("func 0 1 / block / call 0 1 / ret 0 / func 0 0 / block / resume")
 	s := before(m, 0, 10)
 	want := Copy(s)
 	want.Stack = append(want.Stack, api.Frame{F: 1})
@@ -177,7 +179,7 @@ func TestACallOfNoArgumentsAndNoPlaces(t *testing.T) {
 }
 
 func TestTooDeep(t *testing.T) {
-	m := module(t, "func 0 2 / block / call 0 0 / invoke 1 0 1 2 / block / ret 0 / pad 0 all cleanup / ret 0")
+	m := samples.Module("func 0 2 / block / call 0 0 / invoke 1 0 1 2 / block / ret 0 / pad 0 all cleanup / ret 0")
 	for at := range 2 {
 		for count := 1; count <= 32; count++ {
 			s := before(m, at, 3, 4)
@@ -198,7 +200,7 @@ func TestTooDeep(t *testing.T) {
 }
 
 func TestRet(t *testing.T) {
-	m := module(t, calling)
+	m := samples.Module(calling)
 	top := api.Frame{F: 1, At: 1, Regs: []uint16{20, 21, 22, 23, 24}, Fly: 88}
 
 	s := before(m, 0, 10, 11, 12, 13)
@@ -225,7 +227,7 @@ func TestRet(t *testing.T) {
 
 // A machine's first frame may be of any function: nothing says it's the first one.
 func TestTheLastFrameOfAnotherFunction(t *testing.T) {
-	m := module(t, calling)
+	m := samples.Module(calling)
 	s := before(m, 0, 0)
 	s.Stack = []api.Frame{{F: 1, At: 1, Regs: []uint16{20, 21, 22, 23, 24}}}
 	want := Copy(s)
@@ -237,7 +239,7 @@ func TestTheLastFrameOfAnotherFunction(t *testing.T) {
 }
 
 func TestFramesFurtherDownStay(t *testing.T) {
-	m := module(t, "func 0 2 / block / call 0 0 / invoke 1 0 1 2 / block / ret 1 / pad 0 all cleanup / ret 0")
+	m := samples.Module("func 0 2 / block / call 0 0 / invoke 1 0 1 2 / block / ret 1 / pad 0 all cleanup / ret 0")
 	low := before(m, 0, 30, 31)
 	low.Stack = append(low.Stack, before(m, 1, 40, 41).Stack[0])
 	s := Copy(low)
@@ -254,7 +256,7 @@ func TestFramesFurtherDownStay(t *testing.T) {
 
 // Each way in which a machine may end, when it isn't the first frame that does it: those below stay.
 func TestEndsAboveOthers(t *testing.T) {
-	m := module(t, "func 0 2 / block / call 0 1 / ret 0 / func 0 2 / block / div 0 0 1 / load 0 0 / store 0 0 / in 0 / call 1 1 / ret 0")
+	m := samples.Module("func 0 2 / block / call 0 1 / ret 0 / func 0 2 / block / div 0 0 1 / load 0 0 / store 0 0 / in 0 / call 1 1 / ret 0")
 	for at, done := range []int{api.NoQuot, api.NoCell, api.NoCell, api.NoInput} {
 		s := before(m, 0, 3, 4)
 		s.Inputs = nil
@@ -264,7 +266,7 @@ func TestEndsAboveOthers(t *testing.T) {
 }
 
 func TestOneThatEndedDoesNothingMore(t *testing.T) {
-	m := module(t, example)
+	m := samples.Module(example)
 	for done := api.Answered; done <= api.NoInput; done++ {
 		for n, f := range m.Funcs {
 			for i, b := range f.Blocks {

@@ -6,6 +6,8 @@ import (
 	"testing"
 
 	"davit/api"
+	"davit/runs"
+	"davit/samples"
 )
 
 // throwing: function 0's blocks each invoke function 1 with a pad of another kind, in block + 8, or call it; function 1 throws 5, or its argument.
@@ -53,7 +55,7 @@ func tower(m api.Module, blocks []int, top api.Frame) api.Mach {
 
 // Each tower of up to four frames below the one that throws, at each pad, and at a Call.
 func TestTowers(t *testing.T) {
-	m := module(t, throwing)
+	m := samples.Module(throwing)
 	counts := map[string]int{}
 	for height := range 5 {
 		blocks := make([]int, height)
@@ -125,7 +127,7 @@ func thrown(t *testing.T, m api.Module, blocks []int, n uint16) string {
 
 // A pad of its own doesn't catch what a frame throws itself: it stands at no Invoke.
 func TestOwnPadsDoNotCatch(t *testing.T) {
-	m := module(t, "func 0 1 / block / invoke 0 1 1 2 / block / throw 0 / pad 0 all cleanup / throw 0 / func 0 1 / block / throw 0")
+	m := samples.Module("func 0 1 / block / invoke 0 1 1 2 / block / throw 0 / pad 0 all cleanup / throw 0 / func 0 1 / block / throw 0")
 	for block := 1; block <= 2; block++ {
 		s := before(m, 0, 8)
 		s.Stack[0].Block = block
@@ -137,7 +139,7 @@ func TestOwnPadsDoNotCatch(t *testing.T) {
 
 // A word that comes from a Throw of 0 and one that was never thrown: Resume in a frame into which nothing was thrown throws 0.
 func TestResumeOfNothing(t *testing.T) {
-	m := module(t, "func 0 1 / block / invoke 0 1 1 2 / block / ret 0 / pad 0 catch 0 / ret 0 / func 0 1 / block / const 0 4 / resume")
+	m := samples.Module("func 0 1 / block / invoke 0 1 1 2 / block / ret 0 / pad 0 catch 0 / ret 0 / func 0 1 / block / const 0 4 / resume")
 	got, err := Run(m, nil, 100)
 	if err != api.OK || got.Done != api.Answered || got.Value != 0 || len(got.Stack) != 0 {
 		t.Error(got, err)
@@ -159,7 +161,7 @@ func TestACleanupThrowsAnew(t *testing.T) {
 		{"5", api.Answered, 5, []int{5, 5}, 0},
 		{"6", api.Thrown, 6, []int{6}, 1},
 	} {
-		m := module(t, strings.ReplaceAll(text, "WORD", c.word))
+		m := samples.Module(strings.ReplaceAll(text, "WORD", c.word))
 		got, err := Run(m, nil, 100)
 		if err != api.OK || got.Done != c.done || got.Value != c.value || !slices.Equal(got.Events, c.events) || len(got.Stack) != c.left {
 			t.Errorf("%s: %+v, %v", c.word, got, err)
@@ -169,12 +171,12 @@ func TestACleanupThrowsAnew(t *testing.T) {
 
 // Where nobody catches, nobody cleans up, and the frames stay where they stood.
 func TestNobodyCatchesSoNobodyCleans(t *testing.T) {
-	m := module(t, "func 0 1 / block / invoke 0 1 1 2 / block / ret 0 / pad 0 catch 6 / out 0 / ret 0"+
-		" / func 0 1 / block / invoke 0 2 1 2 / block / ret 0 / pad 0 cleanup / out 0 / resume"+
+	m := samples.Module("func 0 1 / block / invoke 0 1 1 2 / block / ret 0 / pad 0 catch 6 / out 0 / ret 0" +
+		" / func 0 1 / block / invoke 0 2 1 2 / block / ret 0 / pad 0 cleanup / out 0 / resume" +
 		" / func 0 1 / block / call 0 3 / ret 0 / func 0 1 / block / const 0 5 / throw 0")
 	got, err := Run(m, nil, 100)
 	want := api.Mach{Stack: []api.Frame{{Regs: []uint16{0}}, {F: 1, Regs: []uint16{0}}, {F: 2, Regs: []uint16{0}}}, Done: api.Thrown, Value: 5}
-	if err != api.OK || !sameMach(got, want) {
+	if err != api.OK || !runs.Alike(got, want) {
 		t.Errorf("%+v, %v", got, err)
 	}
 }
@@ -182,7 +184,7 @@ func TestNobodyCatchesSoNobodyCleans(t *testing.T) {
 // A frame that stands at a Call isn't at its block's Invoke yet.
 func TestAPadIsNotAskedAheadOfItsInvoke(t *testing.T) {
 	for _, pad := range []string{"all", "cleanup", "catch 5 cleanup"} {
-		m := module(t, "func 0 2 / block / call 0 1 / invoke 1 1 1 2 / block / ret 0 / pad 0 "+pad+" / ret 0 / func 0 1 / block / throw 0")
+		m := samples.Module("func 0 2 / block / call 0 1 / invoke 1 1 1 2 / block / ret 0 / pad 0 " + pad + " / ret 0 / func 0 1 / block / throw 0")
 		low, top := at(m, 0, 0, 0), at(m, 1, 0, 0)
 		top.Regs[0] = 5
 		steps(t, m, api.Mach{Stack: []api.Frame{low, top}}, api.Mach{Stack: []api.Frame{low}, Done: api.Thrown, Value: 5})

@@ -59,11 +59,7 @@ func Ways(count int) []api.End {
 // Every function of so many blocks, each of which ends in one of these ways.
 func Every(count int, ends []api.End) iter.Seq[api.Func] {
 	return func(yield func(api.Func) bool) {
-		total := 1
-		for range count {
-			total *= len(ends)
-		}
-		for number := range total {
+		for number := range power(len(ends), count) {
 			chosen := make([]api.End, count)
 			for n := range chosen {
 				chosen[n] = ends[number%len(ends)]

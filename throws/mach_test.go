@@ -7,11 +7,8 @@ import (
 	"davit/api"
 	"davit/mach"
 	"davit/made"
+	"davit/runs"
 )
-
-const most = 60 // steps that a machine runs on
-
-var inputs = []uint16{3, 0, 1, 65535, 2, 5, 16, 1, 0}
 
 // seen is how often something was thrown, how many frames went below those that threw it, and how often one landed; how often something was told, and written; and how many steps were done above, or by, one that doesn't.
 type seen struct{ thrown, past, landed, told, written, still, kept int }
@@ -20,7 +17,7 @@ type seen struct{ thrown, past, landed, told, written, still, kept int }
 func (c *seen) steps(t *testing.T, m api.Module, s api.Mach) {
 	t.Helper()
 	out, tell, write := Out(m), Tells(m), Writes(m)
-	for step := 0; step < most && s.Done == api.Runs; step++ {
+	for step := 0; step < runs.Most && s.Done == api.Runs; step++ {
 		next, err := mach.Step(m, s)
 		if err != api.OK {
 			t.Fatalf("%+v may not be: %v", s, err)
@@ -84,42 +81,15 @@ func (c *seen) cells(t *testing.T, m api.Module, s, next api.Mach, write []bool)
 	}
 }
 
-// fewer is the module, changed, so that more of its functions do nothing: in these ones Copy stands for Out, In and Store, Ret for Throw and Resume.
-func fewer(m api.Module, functions ...int) api.Module {
-	for _, n := range functions {
-		if n >= len(m.Funcs) {
-			continue
-		}
-		for _, b := range m.Funcs[n].Blocks {
-			for i, x := range b.Ins {
-				if x.Op == api.Out || x.Op == api.In || x.Op == api.Store {
-					b.Ins[i] = api.Ins{Op: api.Copy, Dst: x.Dst, A: x.A}
-				}
-			}
-		}
-		for i, b := range m.Funcs[n].Blocks {
-			if b.End.Kind == api.Throw || b.End.Kind == api.Resume {
-				m.Funcs[n].Blocks[i].End = api.End{Kind: api.Ret, A: b.End.A}
-			}
-		}
-	}
-	return m
-}
-
-// modules some functions of which, or all, do much, and others little.
-func modules(seed uint64) api.Module {
-	return fewer(made.Module(seed), [][]int{nil, {1}, {0, 2}, {1, 3}, {2, 3, 4}}[seed%5]...)
-}
-
 // Machines from their beginning on, which are told more or less, and end in each way.
 func TestMachinesFromTheirBeginning(t *testing.T) {
 	var c seen
 	var ends [api.NoInput + 1]int
 	for seed := range uint64(10000) {
-		m, told := modules(seed), inputs[:seed%10]
+		m, told := made.Mixed(seed), runs.Inputs()[:seed%10]
 		s, _ := mach.New(m, told)
 		c.steps(t, m, s)
-		end, _ := mach.Run(m, told, most)
+		end, _ := mach.Run(m, told, runs.Most)
 		ends[end.Done]++
 	}
 	if min(c.thrown, c.landed, c.told, c.written, c.still, c.kept, slices.Min(ends[:])) < 30 {
@@ -131,11 +101,11 @@ func TestMachinesFromTheirBeginning(t *testing.T) {
 func TestTowers(t *testing.T) {
 	var c seen
 	for seed := range 1000 {
-		m := modules(uint64(seed))
+		m := made.Mixed(uint64(seed))
 		for n, f := range m.Funcs {
 			for block := range f.Blocks {
 				stack := made.Tower(m, made.Frame(m, n, block, 0), 1+seed%5, seed/5+block)
-				c.steps(t, m, api.Mach{Stack: stack, Cells: [16]uint16{1, 2, 15: 3}, Inputs: inputs})
+				c.steps(t, m, runs.From(stack))
 			}
 		}
 	}

@@ -108,70 +108,13 @@ func (c *tally) atLeast(t *testing.T, least int) {
 	}
 }
 
-// bit of a number.
-func bit(number, n int) bool { return number>>n&1 == 1 }
-
-// doing is a function that throws, tells and writes itself, or not.
-func doing(throw, tell, write bool) api.Func {
-	f := api.Func{Regs: 1, Blocks: []api.Block{{End: api.End{Kind: api.Ret}}}}
-	b := &f.Blocks[0]
-	if throw {
-		b.End.Kind = api.Throw
-	}
-	if tell {
-		b.Ins = append(b.Ins, api.Ins{Op: api.In})
-	}
-	if write {
-		b.Ins = append(b.Ins, api.Ins{Op: api.Store})
-	}
-	return f
-}
-
-// call puts a call of function n into the function, changed: 0 none, 1 a Call, 2 an Invoke whose pad has not All, 3 one whose pad has.
-func call(f *api.Func, n, how int) {
-	goal := len(f.Blocks)
-	switch how {
-	case 1:
-		f.Blocks = append(f.Blocks, api.Block{Ins: []api.Ins{{Op: api.Call, F: n}}, End: api.End{Kind: api.Ret}})
-	case 2, 3:
-		pad := api.Pad{Cleanup: n == 0, Catch: []uint16{uint16(n)}, All: how == 3}
-		f.Blocks = append(f.Blocks,
-			api.Block{End: api.End{Kind: api.Invoke, F: n, To: goal, Pad: goal + 1}},
-			api.Block{Landing: true, Pad: pad, End: api.End{Kind: api.Ret}})
-	}
-}
-
-// some module of so many functions: of each which calls which how, by the digits of one number, and who does what itself, by the bits of another one.
-func some(count, ways int, hows []int, doers int) api.Module {
-	m := api.Module{Funcs: make([]api.Func, count)}
-	for n := range m.Funcs {
-		// By odd factors each of the three is done by any of the functions alone and together, as doers goes through all.
-		f := doing(bit(doers, n), bit(doers*3, n), bit(doers*5+1, n))
-		for k := range count {
-			call(&f, k, hows[ways%len(hows)])
-			ways /= len(hows)
-		}
-		m.Funcs[n] = f
-	}
-	return m
-}
-
-func power(base, exponent int) int {
-	n := 1
-	for range exponent {
-		n *= base
-	}
-	return n
-}
-
 // Every module of up to three functions, by who calls whom how, and who does what itself; of three by Calls, and Invokes whose pads have All, alone.
 func TestEveryModuleOfFewFunctions(t *testing.T) {
 	var c tally
-	for count, hows := range [][]int{1: {0, 1, 2, 3}, 2: {0, 1, 2, 3}, 3: {0, 1, 3}} {
-		for ways := range power(len(hows), count*count) {
-			for doers := range 1 << count {
-				c.check(t, some(count, ways, hows, doers))
-			}
+	all := []int{made.NoCall, made.ByCall, made.ByInvoke, made.ByAll}
+	for count, hows := range [][]int{1: all, 2: all, 3: {made.NoCall, made.ByCall, made.ByAll}} {
+		for m := range made.Doers(count, hows) {
+			c.check(t, m)
 		}
 	}
 	c.atLeast(t, 10000)

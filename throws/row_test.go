@@ -6,18 +6,19 @@ import (
 	"testing"
 
 	"davit/api"
+	"davit/made"
 )
 
 // Rows of as many functions as there may be, each of which calls the next one up, or down: all do it from which a way leads to one that does, but where an Invoke lets nothing out.
 func TestRows(t *testing.T) {
 	const count = api.MaxFuncs
 	for doer := range count {
-		for _, how := range []int{1, 2, 3} {
+		for _, how := range []int{made.ByCall, made.ByInvoke, made.ByAll} {
 			up, down := row(doer, how, 1), row(doer, how, -1)
 			below, above := strings.Repeat("1", doer+1)+strings.Repeat("0", count-1-doer), strings.Repeat("0", doer)+strings.Repeat("1", count-doer)
 			alone := strings.Repeat("0", doer) + "1" + strings.Repeat("0", count-1-doer)
 			outUp, outDown := below, above
-			if how == 3 {
+			if how == made.ByAll {
 				outUp, outDown = alone, alone
 			}
 			if got := three(up); got != [3]string{outUp, below, below} {
@@ -34,9 +35,9 @@ func TestRows(t *testing.T) {
 func row(doer, how, step int) api.Module {
 	m := api.Module{Funcs: make([]api.Func, api.MaxFuncs)}
 	for n := range m.Funcs {
-		m.Funcs[n] = doing(n == doer, n == doer, n == doer)
+		m.Funcs[n] = made.Doing(n == doer, n == doer, n == doer)
 		if next := n + step; 0 <= next && next < len(m.Funcs) {
-			call(&m.Funcs[n], next, how)
+			made.AddCall(&m.Funcs[n], next, how)
 		}
 	}
 	return m
@@ -47,9 +48,9 @@ func TestRings(t *testing.T) {
 	const none = -1
 	for doer := none; doer < api.MaxFuncs; doer++ {
 		for _, step := range []int{1, 3, api.MaxFuncs - 1} {
-			m := row(doer, 0, 1)
+			m := row(doer, made.NoCall, 1)
 			for n := range m.Funcs {
-				call(&m.Funcs[n], (n+step)%api.MaxFuncs, 1+n%2)
+				made.AddCall(&m.Funcs[n], (n+step)%api.MaxFuncs, []int{made.ByCall, made.ByInvoke}[n%2])
 			}
 			want := strings.Repeat("1", api.MaxFuncs)
 			if doer == none {
@@ -79,7 +80,7 @@ func full(m api.Module) api.Module {
 
 func TestTheGreatestModules(t *testing.T) {
 	want := strings.Repeat("1", api.MaxFuncs)
-	for _, how := range []int{1, 2} {
+	for _, how := range []int{made.ByCall, made.ByInvoke} {
 		if got := three(full(row(api.MaxFuncs-1, how, 1))); got != [3]string{want, want, want} {
 			t.Errorf("%d: %v", how, got)
 		}
@@ -140,5 +141,5 @@ func room(blocks, ins int) api.Module {
 		f.Blocks = append(f.Blocks, api.Block{Ins: slices.Repeat([]api.Ins{{Op: api.Const}}, ins), End: api.End{Kind: api.Ret}})
 	}
 	f.Blocks = append(f.Blocks, api.Block{Landing: true, Pad: api.Pad{Cleanup: true}, End: api.End{Kind: api.Ret}})
-	return api.Module{Funcs: []api.Func{f, doing(true, false, false), doing(false, true, false), doing(false, false, true)}}
+	return api.Module{Funcs: []api.Func{f, made.Doing(true, false, false), made.Doing(false, true, false), made.Doing(false, false, true)}}
 }

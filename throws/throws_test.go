@@ -1,22 +1,11 @@
 package throws
 
 import (
-	"strings"
 	"testing"
 
 	"davit/api"
-	"davit/read"
+	"davit/samples"
 )
-
-// module of a text whose lines stand with a stroke between.
-func module(t *testing.T, text string) api.Module {
-	t.Helper()
-	m, err, line := read.Read(strings.ReplaceAll(text, " / ", "\n") + "\n")
-	if err != api.OK {
-		t.Fatalf("%q: %v in line %d", text, err, line)
-	}
-	return m
-}
 
 // digits are what is said of each function, 1 or 0.
 func digits(list []bool) string {
@@ -93,7 +82,7 @@ func TestOut(t *testing.T) {
 		"over one that catches a number, all":        {invokes1 + " / pad 0 all / ret 0" + invokes2 + " / pad 0 catch 7 / ret 0" + throwsA, "011"},
 		"not used":                                   {answers[3:] + throwsA + " / func 0 1 / block / call 0 1 / ret 0", "011"},
 	} {
-		if got := digits(Out(module(t, c.text))); got != c.want {
+		if got := digits(Out(samples.Module(c.text))); got != c.want {
 			t.Errorf("%s: %s, not %s", name, got, c.want)
 		}
 	}
@@ -121,7 +110,7 @@ func TestOutOfRings(t *testing.T) {
 		"a ring that invokes one beside it, all":  {calls1 + " / func 0 1 / block / call 0 0 / invoke 0 2 1 2 / block / ret 0 / pad 0 all / ret 0" + throwsA, "001"},
 		"a ring that is invoked, all, and throws": {invokes1 + " / pad 0 all / ret 0 / func 0 1 / block / call 0 2 / ret 0 / func 0 1 / block / call 0 1 / throw 0", "011"},
 	} {
-		if got := digits(Out(module(t, c.text))); got != c.want {
+		if got := digits(Out(samples.Module(c.text))); got != c.want {
 			t.Errorf("%s: %s, not %s", name, got, c.want)
 		}
 	}
@@ -168,7 +157,7 @@ func TestTellsAndWrites(t *testing.T) {
 		"a ring beside one that does both":    {answers[3:] + " / func 0 1 / block / call 0 2 / ret 0 / func 0 1 / block / call 0 1 / ret 0 / func 0 1 / block / in 0 / store 0 0 / ret 0", "0001", "0001"},
 		"a ring of three, the last one tells": {calls1 + " / func 0 1 / block / call 0 2 / ret 0 / func 0 1 / block / call 0 0 / in 0 / ret 0", "111", "000"},
 	} {
-		m := module(t, c.text)
+		m := samples.Module(c.text)
 		if got := digits(Tells(m)); got != c.tells {
 			t.Errorf("%s: tell: %s, not %s", name, got, c.tells)
 		}
