@@ -28,20 +28,11 @@ func (c *seen) follow(t *testing.T, m, calmed api.Module, s api.Mach) {
 			t.Fatalf("%+v: %+v goes on to %+v; calmed to %+v", m, s, next, other)
 		}
 		c.steps++
-		if landed(m, next) {
+		if runs.Landed(m, next) {
 			c.landed++
 		}
 		s = next
 	}
-}
-
-// landed: does the top frame stand at the beginning of a Landing block?
-func landed(m api.Module, s api.Mach) bool {
-	if len(s.Stack) == 0 {
-		return false
-	}
-	top := s.Stack[len(s.Stack)-1]
-	return top.At == 0 && m.Funcs[top.F].Blocks[top.Block].Landing
 }
 
 func stepOf(t *testing.T, m api.Module, s api.Mach) api.Mach {
@@ -92,13 +83,13 @@ func TestTowers(t *testing.T) {
 func TestRuns(t *testing.T) {
 	ended, on, told := 0, 0, 0
 	for seed := range 3000 {
-		m := stuffed(made.Mixed(uint64(seed)), seed)
+		m := made.Stuffed(made.Mixed(uint64(seed)), seed)
 		calmed, _ := Module(m)
 		for _, steps := range []int{0, 1, 10, 100, 1000} {
 			s, _ := mach.Run(m, runs.Inputs(), steps)
 			sooner, _ := mach.Run(calmed, runs.Inputs(), steps)
 			later, _ := mach.Run(calmed, runs.Inputs(), 2*steps)
-			if !begins(s.Events, sooner.Events) || !begins(later.Events, s.Events) || s.Done != api.Runs && !runs.Alike(later, s) {
+			if !runs.Begins(s.Events, sooner.Events) || !runs.Begins(later.Events, s.Events) || s.Done != api.Runs && !runs.Alike(later, s) {
 				t.Fatalf("%+v, %d steps: %+v; calmed %+v, in twice as many %+v", m, steps, s, sooner, later)
 			}
 			told += len(s.Events)
@@ -113,6 +104,3 @@ func TestRuns(t *testing.T) {
 		t.Errorf("%d ended, %d run on; %d events", ended, on, told)
 	}
 }
-
-// begins: does the list begin so?
-func begins(list, so []int) bool { return len(list) >= len(so) && slices.Equal(list[:len(so)], so) }

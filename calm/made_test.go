@@ -7,19 +7,10 @@ import (
 
 	"davit/api"
 	"davit/made"
+	"davit/samples"
 	"davit/shape"
-	"davit/show"
 	"davit/throws"
 )
-
-func shown(t *testing.T, m api.Module) string {
-	t.Helper()
-	text, err := show.Show(m)
-	if err != api.OK {
-		t.Fatalf("%+v: %v", m, err)
-	}
-	return text
-}
 
 // calmText is a module's text calmed, line by line: an invoke of one out of which nothing is thrown becomes two lines.
 func calmText(text string, out []bool) string {
@@ -55,9 +46,9 @@ type tally struct{ calmed, full, stay int }
 // check a module that may be: calmed it is what its text says, calmed again it stays, and out of the same functions something may be thrown.
 func (c *tally) check(t *testing.T, m api.Module) {
 	t.Helper()
-	text, out := shown(t, m), throws.Out(m)
+	text, out := samples.Text(m), throws.Out(m)
 	got, err := Module(m)
-	if want := calmText(text, out); err != api.OK || shown(t, got) != want {
+	if want := calmText(text, out); err != api.OK || samples.Text(got) != want {
 		t.Fatalf("%+v: %v, %+v, not %q", m, err, got, want)
 	}
 	if again, err := Module(got); err != api.OK || !shape.Same(again, got) {
@@ -106,26 +97,12 @@ func TestEveryModuleOfFewFunctions(t *testing.T) {
 	}
 }
 
-// stuffed is the module, changed: ahead of its blocks' instructions stand others, so that many blocks are full, or nearly.
-func stuffed(m api.Module, seed int) api.Module {
-	for n, f := range m.Funcs {
-		for i := range f.Blocks {
-			b := &f.Blocks[i]
-			count := []int{0, api.MaxIns - 2, api.MaxIns - 1, api.MaxIns}[(seed+5*n+3*i)%4]
-			if count > len(b.Ins) {
-				b.Ins = append(slices.Repeat([]api.Ins{{Op: api.Load}}, count-len(b.Ins)), b.Ins...)
-			}
-		}
-	}
-	return m
-}
-
 func TestMadeModules(t *testing.T) {
 	var c tally
 	for seed := range 6000 {
 		c.check(t, made.Module(uint64(seed)))
 		c.check(t, made.Mixed(uint64(seed)))
-		c.check(t, stuffed(made.Mixed(uint64(seed)), seed))
+		c.check(t, made.Stuffed(made.Mixed(uint64(seed)), seed))
 	}
 	if min(c.calmed, c.full, c.stay) < 300 {
 		t.Errorf("%+v", c)

@@ -98,15 +98,6 @@ func TestFullBlocks(t *testing.T) {
 	}
 }
 
-// A module that may not be stays as it is, though a block could be calmed.
-func TestWhatMayNotBe(t *testing.T) {
-	for name, m := range samples.Wrong() {
-		if got, err := Module(m); err != api.ErrArg || !shape.Same(got, m) {
-			t.Errorf("%s: %v, %+v", name, err, got)
-		}
-	}
-}
-
 func TestAsMuchAsMayBe(t *testing.T) {
 	for name, m := range samples.Right() {
 		var c tally

@@ -28,3 +28,17 @@ func Alike(a, b api.Mach) bool {
 func AlikeFrames(a, b api.Frame) bool {
 	return a.F == b.F && a.Block == b.Block && a.At == b.At && slices.Equal(a.Regs, b.Regs) && a.Fly == b.Fly
 }
+
+// Landed: does the top frame stand at the beginning of a Landing block?
+func Landed(m api.Module, s api.Mach) bool {
+	if len(s.Stack) == 0 {
+		return false
+	}
+	top := s.Stack[len(s.Stack)-1]
+	return top.At == 0 && m.Funcs[top.F].Blocks[top.Block].Landing
+}
+
+// Begins: does the list of events begin so?
+func Begins(events, so []int) bool {
+	return len(events) >= len(so) && slices.Equal(events[:len(so)], so)
+}

@@ -60,3 +60,41 @@ func TestAlike(t *testing.T) {
 		t.Error("lists nil and empty")
 	}
 }
+
+func TestLanded(t *testing.T) {
+	m := api.Module{Funcs: []api.Func{{}, {Blocks: []api.Block{{}, {Landing: true}}}}}
+	for _, c := range []struct {
+		stack []api.Frame
+		want  bool
+	}{
+		{nil, false},
+		{[]api.Frame{{F: 1, Block: 1}}, true},
+		{[]api.Frame{{F: 1, Block: 1, At: 1}}, false},
+		{[]api.Frame{{F: 1, Block: 0}}, false},
+		{[]api.Frame{{F: 1, Block: 1}, {F: 1, Block: 0}}, false},
+		{[]api.Frame{{F: 1, Block: 0}, {F: 1, Block: 1}}, true},
+	} {
+		if got := Landed(m, api.Mach{Stack: c.stack}); got != c.want {
+			t.Errorf("%+v: %v", c.stack, got)
+		}
+	}
+}
+
+func TestBegins(t *testing.T) {
+	for _, c := range []struct {
+		events, so []int
+		want       bool
+	}{
+		{nil, nil, true},
+		{[]int{1, 2}, nil, true},
+		{[]int{1, 2}, []int{1}, true},
+		{[]int{1, 2}, []int{1, 2}, true},
+		{[]int{1, 2}, []int{2}, false},
+		{[]int{1, 2}, []int{1, 2, 3}, false},
+		{nil, []int{1}, false},
+	} {
+		if got := Begins(c.events, c.so); got != c.want {
+			t.Errorf("%v, %v: %v", c.events, c.so, got)
+		}
+	}
+}

@@ -6,6 +6,7 @@ import (
 
 	"davit/api"
 	"davit/read"
+	"davit/show"
 )
 
 // Module of a text whose lines stand with a stroke between. It panics where the text is none: the test that has it is wrong.
@@ -15,6 +16,15 @@ func Module(text string) api.Module {
 		panic("no module's text: " + text)
 	}
 	return m
+}
+
+// Text of a module that may be. It panics where that may not be.
+func Text(m api.Module) string {
+	text, err := show.Show(m)
+	if err != api.OK {
+		panic("no module that may be, or too long a text")
+	}
+	return text
 }
 
 // Wide is a module of each Op and each Kind, and of pads of each sort, in four functions; much of it could be made better.

@@ -20,6 +20,17 @@ func TestModule(t *testing.T) {
 	}
 }
 
+func TestText(t *testing.T) {
+	if got := Text(Module("func 0 1 / block / const 0 7 / ret 0")); got != "func 0 1\nblock\nconst 0 7\nret 0\n" {
+		t.Errorf("%q", got)
+	}
+	for name, m := range Wrong() {
+		if !panics(func() { Text(m) }) {
+			t.Errorf("%s: it has a text", name)
+		}
+	}
+}
+
 func panics(do func()) (is bool) {
 	defer func() { is = recover() != nil }()
 	do()
